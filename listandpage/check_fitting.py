@@ -1,0 +1,121 @@
+"""Fitting the texts of checks."""
+
+from listandpage.blocks import Block, For, If, Program, Return, Returning
+from listandpage.claims import Certain, Opposite, SameTest
+from listandpage.fitting import Fitter
+from listandpage.syntax import Branching, Looping, Naming, Super
+from listandpage.walking import Some, Walk
+
+
+class CheckFitter(Fitter):
+    """Goes through the text of a check, in which each test is true or false."""
+
+    def __init__(self, schema, uses):
+        Fitter.__init__(self, schema, uses)
+        # Of the outermost `for` around: what its returns give, None ahead of the first one.
+        self.given = None
+        self.returns = 0
+
+    def sealed(self, claim):
+        """A test or use as it stands in a check."""
+        return Certain(claim)
+
+    def equal(self, left, other):
+        """The test whether two paths end in the same."""
+        return SameTest(left, other)
+
+    def fit_walk(self, node, scope):
+        """What `any` or `all` means."""
+        head = self.fit_head(node, scope, node.word)
+        self.weigh(len(node.head.tokens) - 1, scope)
+        inner = self.fit(node.inner, scope.inside(node.name.text, head.table))
+        if node.word.text == "any":
+            return Some(Walk(head.path, head.link, inner))
+        return Opposite(Some(Walk(head.path, head.link, Opposite(inner))))
+
+    def fit_head(self, node, scope, token):
+        """The path of the head of a walk; its name is taken."""
+        self.take_name(node.name)
+        head = self.route_of(node.head, scope)
+        self.need_list(head, scope, token)
+        return head
+
+    def fit_other(self, node, scope):
+        """What a test means."""
+        if isinstance(node, Super):
+            return self.fit_super(node, scope)
+        meant = self.fit_looped(node, scope) if node.form == "looped" else self.sealed(self.fit_test(node, scope))
+        return Opposite(meant) if node.denied else meant
+
+    def fit_super(self, node, scope):
+        """What the check of the next kind means: outside of families there is none."""
+        self.require(False, node.word)
+
+    def fit_looped(self, test, scope):
+        """What `in` with square brackets means."""
+        looped = test.other
+        left = self.route_of(test.left, scope)
+        head = self.fit_head(looped, scope, test.first)
+        end = self.route_of(looped.end, scope.inside(looped.name.text, head.table))
+        begins = looped.end.tokens[0].text == looped.name.text
+        fits = begins and left.link is None and end.link is None and left.meets(end)
+        self.require(fits, test.first)
+        names = len(test.left.tokens) + len(looped.head.tokens) + len(looped.end.tokens) - 3
+        self.twice += names + 1
+        self.note_alike(left, end)
+        return Some(Walk(head.path, head.link, SameTest(left.path, end.path)))
+
+    def fit_program(self, statements, scope):
+        """What a whole check means."""
+        return Program(self.fit_block(statements, scope))
+
+    def fit_block(self, statements, scope):
+        """What the statements of a block mean."""
+        fitted = []
+        for statement in statements:
+            if isinstance(statement, Naming):
+                scope = self.fit_naming(statement, scope)
+            else:
+                fitted.append(self.fit_statement(statement, scope))
+        return Block(fitted)
+
+    def fit_naming(self, statement, scope):
+        """The scope behind a `NAME = path`."""
+        name = statement.name
+        self.take_name(name)
+        route = self.route_of(statement.trail, scope)
+        self.require(route.is_plain("row"), name)
+        self.weigh(len(statement.trail.tokens) - 1, scope)
+        return scope.naming(name.text, route.path, route.table)
+
+    def fit_statement(self, statement, scope):
+        """What any other statement means."""
+        if isinstance(statement, Looping):
+            return self.fit_for(statement, scope)
+        test = self.fit(statement.test, scope)
+        if isinstance(statement, Branching):
+            block = self.fit_block(statement.block, scope)
+            otherwise = [] if statement.otherwise is None else statement.otherwise
+            return If(test, block, self.fit_block(otherwise, scope))
+        if scope.around:
+            self.fit_return(statement)
+        return Return(test)
+
+    def fit_return(self, statement):
+        """Check whether a `return` may stand within a `for`."""
+        self.require(statement.bare, statement.word)
+        truth = statement.test.parts[0].parts[0].truth
+        self.require(self.given in (None, truth), statement.word)
+        self.given = truth
+        self.returns += 1
+
+    def fit_for(self, statement, scope):
+        """What a `for` with its block means."""
+        if not scope.around:
+            self.given = None
+        before = self.returns
+        head = self.fit_head(statement, scope, statement.word)
+        self.weigh(len(statement.head.tokens) - 1, scope)
+        block = self.fit_block(statement.block, scope.inside(statement.name.text, head.table))
+        truth = self.given if self.returns > before else None
+        return For(Walk(head.path, head.link, Returning(block)), truth)

@@ -1,0 +1,231 @@
+"""What is claimed of a store, a thing and a user: that a question or test is true, or that it is false.
+
+A claim is asked in a world: of a store, in which all is known, or of facts, in which
+some is. The answer is True if it is settled that it holds, False if it is settled that
+it does not, and otherwise the fact that it waits for, a tuple. That a question is
+unknown is settled where neither of its two claims holds.
+"""
+
+
+def inverted(told):
+    """The opposite of what is settled; a fact stays."""
+    return told if isinstance(told, tuple) else not told
+
+
+class Join:
+    """Parts of which every one, or at least one, is to be true."""
+
+    def __init__(self, parts, every):
+        self.parts = parts
+        self.every = every
+
+    def claim(self, world, chosen, wanted):
+        """Whether it is true, or false, as wanted."""
+        decisive = wanted != self.every
+        waiting = None
+        for part in self.parts:
+            told = part.claim(world, chosen, wanted)
+            if not isinstance(told, tuple):
+                if told == decisive:
+                    return decisive
+            elif waiting is None:
+                waiting = told
+        return not decisive if waiting is None else waiting
+
+    def moved(self, move):
+        """The same where the right is used."""
+        return Join([part.moved(move) for part in self.parts], self.every)
+
+
+class Opposite:
+    """True where the inner one is false, and the other way round."""
+
+    def __init__(self, inner):
+        self.inner = inner
+
+    def claim(self, world, chosen, wanted):
+        """Whether it is true, or false, as wanted."""
+        return self.inner.claim(world, chosen, not wanted)
+
+    def moved(self, move):
+        """The same where the right is used."""
+        return Opposite(self.inner.moved(move))
+
+
+class Certain:
+    """True where the inner one is true, and otherwise false, never unknown."""
+
+    def __init__(self, inner):
+        self.inner = inner
+
+    def claim(self, world, chosen, wanted):
+        """Whether it is true, or false, as wanted."""
+        told = self.inner.claim(world, chosen, True)
+        return told if wanted else inverted(told)
+
+    def moved(self, move):
+        """The same where the right is used."""
+        return Certain(self.inner.moved(move))
+
+
+class Constant:
+    """Always true or always false."""
+
+    def __init__(self, truth):
+        self.truth = truth
+
+    def claim(self, world, chosen, wanted):
+        """Whether it is true, or false, as wanted."""
+        return self.truth == wanted
+
+    def moved(self, move):
+        """The same where the right is used."""
+        return self
+
+
+class Use:
+    """Whether another right, already moved here, admits what a path ends in; unknown where this lacks."""
+
+    def __init__(self, path, root):
+        self.path = path
+        self.root = root
+
+    def claim(self, world, chosen, wanted):
+        """Whether it is true, or false, as wanted."""
+        value = self.path.follow(world, chosen)
+        if value is None:
+            return False
+        told = self.root.claim(world, chosen, True)
+        if not wanted:
+            told = inverted(told)
+        return value if isinstance(value, tuple) and told is not False else told
+
+    def moved(self, move):
+        """The same where the right is used."""
+        return Use(self.path.moved(move), self.root.moved(move))
+
+
+class LackTest:
+    """Whether a path lacks."""
+
+    def __init__(self, path):
+        self.path = path
+
+    def claim(self, world, chosen, wanted):
+        """Whether it is true, or false, as wanted."""
+        value = self.path.follow(world, chosen)
+        return value if isinstance(value, tuple) else (value is None) == wanted
+
+    def moved(self, move):
+        """The same where the right is used."""
+        return LackTest(self.path.moved(move))
+
+
+class FlagTest:
+    """Whether a flag is True; unknown where its path lacks."""
+
+    def __init__(self, path):
+        self.path = path
+
+    def claim(self, world, chosen, wanted):
+        """Whether it is true, or false, as wanted."""
+        value = self.path.follow(world, chosen)
+        if value is None or isinstance(value, tuple):
+            return False if value is None else value
+        return value == wanted
+
+    def moved(self, move):
+        """The same where the right is used."""
+        return FlagTest(self.path.moved(move))
+
+
+class WordTest:
+    """Whether a word is one of those written; unknown where its path lacks."""
+
+    def __init__(self, path, words):
+        self.path = path
+        self.words = words
+
+    def claim(self, world, chosen, wanted):
+        """Whether it is true, or false, as wanted."""
+        value = self.path.follow(world, chosen)
+        if value is None or isinstance(value, tuple):
+            return False if value is None else value
+        return (value in self.words) == wanted
+
+    def moved(self, move):
+        """The same where the right is used."""
+        return WordTest(self.path.moved(move), self.words)
+
+
+class NumberTest:
+    """How a number compares with the one written; unknown where its path lacks."""
+
+    def __init__(self, path, sign, number):
+        self.path = path
+        self.sign = sign
+        self.number = number
+
+    def claim(self, world, chosen, wanted):
+        """Whether it is true, or false, as wanted."""
+        value = self.path.follow(world, chosen)
+        if value is None or isinstance(value, tuple):
+            return False if value is None else value
+        return compares(value, self.sign, self.number) == wanted
+
+    def moved(self, move):
+        """The same where the right is used."""
+        return NumberTest(self.path.moved(move), self.sign, self.number)
+
+
+def compares(number, sign, other):
+    """Whether a number stands to another one as the sign says."""
+    if sign == "=":
+        return number == other
+    if sign in ("<", "<="):
+        return number < other or (sign == "<=" and number == other)
+    return number > other or (sign == ">=" and number == other)
+
+
+class EqualTest:
+    """Whether two paths of a question end in the same; unknown where one of them lacks."""
+
+    def __init__(self, left, other):
+        self.left = left
+        self.other = other
+
+    def claim(self, world, chosen, wanted):
+        """Whether it is true, or false, as wanted."""
+        one = self.left.follow(world, chosen)
+        if one is None:
+            return False
+        two = self.other.follow(world, chosen)
+        if two is None:
+            return False
+        if isinstance(one, tuple):
+            return one
+        return two if isinstance(two, tuple) else (one == two) == wanted
+
+    def moved(self, move):
+        """The same where the right is used."""
+        return EqualTest(self.left.moved(move), self.other.moved(move))
+
+
+class SameTest:
+    """Whether two paths of a check end in the same; None is the same as None."""
+
+    def __init__(self, left, other):
+        self.left = left
+        self.other = other
+
+    def claim(self, world, chosen, wanted):
+        """Whether it is true, or false, as wanted."""
+        one = self.left.follow(world, chosen)
+        if isinstance(one, tuple):
+            return one
+        two = self.other.follow(world, chosen)
+        return two if isinstance(two, tuple) else (one == two) == wanted
+
+    def moved(self, move):
+        """The same where the right is used."""
+        return SameTest(self.left.moved(move), self.other.moved(move))

@@ -1,0 +1,141 @@
+"""Fitting: whether what was read of a text fits its schema, and what it then means."""
+
+from listandpage.basics import is_word
+from listandpage.bodies import Body
+from listandpage.claims import Constant, FlagTest, Join, LackTest, NumberTest, Opposite, Use, WordTest
+from listandpage.paths import THING, Move
+from listandpage.routes import find_route
+from listandpage.syntax import Denied, Joined, Truth, Used, Walked
+from listandpage.tokens import Fault
+
+
+class Fitter:
+    """Goes through a text from left to right; the first thing that does not fit is the fault."""
+
+    def __init__(self, schema, uses):
+        self.schema = schema
+        self.uses = uses
+        self.taken = {}
+        self.walked = []
+        self.once = 0
+        self.twice = 0
+        self.notes = []
+
+    def made_body(self, root):
+        """The body of the text, which means what root asks."""
+        return Body(root, self.walked, self.once, self.twice, self.notes)
+
+    def require(self, fits, token):
+        """Raise Fault at a token unless all fits."""
+        if not fits:
+            raise Fault(token.line, token.at)
+
+    def weigh(self, many, scope):
+        """Count so much, which stands at a place of the text."""
+        if scope.around:
+            self.twice += many
+        else:
+            self.once += many
+
+    def take_name(self, token):
+        """Take a new name."""
+        self.require(is_word(token.text) and token.text not in self.taken, token)
+        self.taken[token.text] = True
+
+    def route_of(self, trail, scope):
+        """Where a path leads; its names are checked."""
+        first = trail.tokens[0]
+        self.require(first.text in scope.visible, first)
+        path, table = scope.visible[first.text]
+        return find_route(self.schema, trail.tokens, path, table)
+
+    def nest(self, tables, scope, token):
+        """Add walks over these tables, which must be later than those of the walks around."""
+        tables_in_order = list(self.schema.tables)
+        for table in tables:
+            if scope.around:
+                later = tables_in_order.index(table) > tables_in_order.index(scope.around[-1])
+                self.require(later, token)
+        self.walked.extend(tables)
+
+    def fit(self, node, scope):
+        """What a question or a test, or a part of one, means."""
+        if isinstance(node, Joined):
+            parts = [self.fit(part, scope) for part in node.parts]
+            return parts[0] if len(parts) == 1 else Join(parts, node.word == "and")
+        if isinstance(node, Denied):
+            return Opposite(self.fit(node.inner, scope))
+        if isinstance(node, Truth):
+            self.weigh(1, scope)
+            return Constant(node.truth)
+        if isinstance(node, Used):
+            return self.sealed(self.fit_use(node, scope))
+        if isinstance(node, Walked):
+            return self.fit_walk(node, scope)
+        return self.fit_other(node, scope)
+
+    def fit_use(self, node, scope):
+        """What the use of a right means."""
+        name = node.name
+        self.require(name.text in self.uses, name)
+        route = self.route_of(node.trail, scope)
+        used = self.uses[name.text]
+        self.require(used.schema == self.schema and route.is_plain("row") and route.table == used.table, name)
+        body = used.body
+        self.nest(body.walked, scope, name)
+        self.weigh(len(node.trail.tokens) + body.once, scope)
+        self.twice += body.twice
+        self.notes.extend(body.notes)
+        if route.path.origin == THING and route.path.steps == () and not scope.around:
+            return Use(route.path, body.root)
+        return Use(route.path, body.root.moved(Move(route.path, len(scope.around))))
+
+    def fit_test(self, test, scope):
+        """What a test means that has no list."""
+        left = self.route_of(test.left, scope)
+        other = self.route_of(test.other, scope) if test.form == "paths" else None
+        self.require(left.link is None and _fits(test.form, left, other), test.first)
+        self.weigh(len(test.left.tokens), scope)
+        self.note(test, left)
+        if other is None:
+            return _lone_test(test, left.path)
+        self.weigh(len(test.other.tokens) - 1, scope)
+        self.note_alike(left, other)
+        return self.equal(left.path, other.path)
+
+    def need_list(self, head, scope, token):
+        """Take the path of the head of a walk, which must end with a list; its names are checked."""
+        self.require(head.is_head(), token)
+        self.nest([head.table], scope, token)
+
+    def note(self, test, left):
+        """Note the words or the number that a path is compared with."""
+        if test.form == "number":
+            self.notes.append(("number", left.spot, test.other))
+        words = {"word": [test.other], "words": test.other}.get(test.form, [])
+        self.notes.extend([("word", left.spot, word) for word in words])
+
+    def note_alike(self, left, other):
+        """Note that two paths are compared, if they end in words."""
+        if left.ends == "word":
+            self.notes.append(("alike", left.spot, other.spot))
+
+
+def _fits(form, left, other):
+    """Whether a path without a list fits what stands beside it in a test."""
+    if form == "paths":
+        return other.link is None and left.meets(other)
+    if form in ("word", "words"):
+        return left.ends == "word"
+    return form == "lacks" or left.ends == form
+
+
+def _lone_test(test, path):
+    """What a test of one path alone means."""
+    if test.form == "flag":
+        return FlagTest(path)
+    if test.form == "lacks":
+        return LackTest(path)
+    if test.form == "number":
+        return NumberTest(path, test.sign, test.other)
+    return WordTest(path, [test.other] if test.form == "word" else test.other)
