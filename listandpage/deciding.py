@@ -33,8 +33,8 @@ def find_escape(schema, table, one, two):
 
 def next_fact(facts, one, two):
     """What is to be asked next; "closed" if nothing can come of these facts, "found" if all is settled."""
-    admits = one.claim(facts, facts.start, True)
-    if admits is False:
+    holds = one.claim(facts, facts.start, True)
+    if holds is False:
         return "closed"
     refuses = two.claim(facts, facts.start, True)
     if refuses is True:
@@ -42,7 +42,7 @@ def next_fact(facts, one, two):
     first, last = unsettled(facts)
     if "closed" in (first, last):
         return "closed"
-    for fact in (first, admits, refuses, last):
+    for fact in (first, holds, refuses, last):
         if isinstance(fact, tuple):
             return fact
     return "found"

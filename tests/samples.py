@@ -39,6 +39,29 @@ EXAMPLE_TABLES = [
     ]),
 ]
 
+# Tables with lists of rows that have lists, three of them within one another.
+DEEP_TABLES = [
+    ("org", [("word", "name", True), ("flag", "open")]),
+    ("person", [("flag", "staff"), ("link", "org", "org", True, None), ("word", "nick", True)]),
+    ("team", [("link", "org", "org", False, "teams"), ("number", "size")]),
+    ("member", [("link", "team", "team", True, "members"), ("word", "role", True)]),
+    ("note", [
+        ("link", "member", "member", False, "notes"),
+        ("link", "by", "person", True, None),
+        ("number", "stars"),
+        ("flag", "public"),
+    ]),
+]
+
+# Two lists of rows of one table.
+LOOSE_TABLES = [
+    ("a", [("word", "w", True), ("flag", "f")]),
+    ("b", [("link", "x", "a", True, "bs"), ("link", "y", "a", True, "cs"), ("word", "w", True), ("number", "n")]),
+]
+
+# Values that are no strings.
+NO_TEXTS = (None, True, False, 0, 7, 10 ** 39, [], ["thing"], (), ("true",), ("alike", True), {}, {"true": 0})
+
 # Values that are neither a name nor the name of a table, of all the kinds that may be passed.
 NO_NAMES = (
     None, True, False, 0, 1, -1, 10 ** 39, "", " ", "Team", "teaM", "te am", " team", "team ", "team\n", "team?",
@@ -60,6 +83,28 @@ def example_rows():
         "doc": [(True, 7, None, 1), (False, -(10 ** 30 - 1), 2, 0)],
         "member": [(2, 0, "lead"), (0, None, "all"), (2, 0, "abcdefgh"), (2, 1, "x")],
     }
+
+
+def deep(user="person"):
+    """The schema of the deep tables."""
+    return Schema(user, DEEP_TABLES)
+
+
+def loose(user="a"):
+    """The schema of the loose tables."""
+    return Schema(user, LOOSE_TABLES)
+
+
+def some_schema(chance):
+    """One of the schemas above, or a random one."""
+    kind = chance.randrange(4)
+    tables = [EXAMPLE_TABLES, DEEP_TABLES, LOOSE_TABLES][kind] if kind < 3 else some_tables(chance)
+    return Schema(chance.choice([name for name, _ in tables]), tables)
+
+
+def tables_of(schema):
+    """The tables of a schema, as it was made from them."""
+    return [(name, list(schema.columns(name))) for name in schema.tables]
 
 
 def is_name(value):
