@@ -41,7 +41,7 @@ ONE_LINE = [
     ("user not in [m.person for m in thing.team.members]", [YES, YES, YES, NO, NO, YES]),
     ("thing.owner in [m.person for m in user.team.members]", [YES, NO, NO, YES, NO, NO]),
     ("thing.team.code in [m.role for m in user.team.members]", [NO] * 6),
-    # The only member of team 0 has no person, and team 1, of no user, has no members.
+    # The only member of team 0 has no person; user 1 has no team, so its list is empty.
     ("any(m.person is None for m in user.team.members)", [NO, NO, YES, NO, NO, YES]),
     ("all(m.person is None for m in user.team.members)", [NO, YES, YES, NO, YES, YES]),
     ("any(m.role == 'lead' and m.person == user for m in thing.team.members)", [NO, NO, NO, YES, NO, NO]),
