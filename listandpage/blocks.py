@@ -1,17 +1,17 @@
 """Checks as programs: the outcomes that a block can have.
 
 An outcome is "yes" and "no", for returning True and False, and "end", for running to
-the end. What is known of a block is a pair: its possible outcomes, and the first fact
-that it waits for, None if there is just one outcome.
+the end. What is known of a block is a pair: its possible outcomes, and the facts that
+it waits for, none if there is just one outcome.
 """
 
-END = (("end",), None)
+END = (("end",), ())
 
 
 def joined(words, more, waiting):
-    """The outcomes of one and more, with the fact that they wait for if there are several."""
+    """The outcomes of one and more, with the facts that they wait for if there are several."""
     both = words + tuple([word for word in more if word not in words])
-    return (both, waiting if len(both) > 1 else None)
+    return (both, waiting if len(both) > 1 else ())
 
 
 class Block:
@@ -37,7 +37,7 @@ class Block:
 def _followed(known, behind):
     """What is known of statements that can run to their end, with the one behind them."""
     words = tuple([word for word in known[0] if word != "end"])
-    return joined(words, behind[0], behind[1] if known[1] is None else known[1])
+    return joined(words, behind[0], known[1] + behind[1])
 
 
 class If:
@@ -55,7 +55,9 @@ class If:
             return self.block.outcome(world, chosen)
         if told is False:
             return self.otherwise.outcome(world, chosen)
-        return joined(self.block.outcome(world, chosen)[0], self.otherwise.outcome(world, chosen)[0], told)
+        entered = self.block.outcome(world, chosen)
+        passed = self.otherwise.outcome(world, chosen)
+        return joined(entered[0], passed[0], told + entered[1] + passed[1])
 
     def moved(self, move):
         """The same where the right is used."""
@@ -73,7 +75,7 @@ class Return:
         told = self.test.claim(world, chosen, True)
         if isinstance(told, tuple):
             return (("yes", "no"), told)
-        return (("yes",) if told else ("no",), None)
+        return (("yes",) if told else ("no",), ())
 
     def moved(self, move):
         """The same where the right is used."""
@@ -95,7 +97,7 @@ class For:
         given = ("yes",) if self.truth else ("no",)
         if isinstance(told, tuple):
             return joined(given, ("end",), told)
-        return (given, None) if told else END
+        return (given, ()) if told else END
 
     def moved(self, move):
         """The same where the right is used."""

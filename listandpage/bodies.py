@@ -5,8 +5,7 @@ class Body:
     """What a right asks, and what it counts.
 
     walked: the table of each walk. once, twice: how much counts once and how much counts
-    twice in the weight. notes: what the tests compare, tuples of ("word", cell, word),
-    ("number", cell, number) and ("alike", cell, cell); a cell is a pair of a table and a column.
+    twice in the weight. notes: what the tests compare with the cells of a store (see frames).
     """
 
     def __init__(self, root, walked, once, twice, notes):

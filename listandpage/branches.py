@@ -31,11 +31,12 @@ def _linked(facts, step, row, table):
 def _worded(frame, facts, step, row):
     """The words that can stand in a cell."""
     cell = (step.table, step.column)
-    group = frame.groups.get(cell, cell)
-    used = facts.fresh.get(group, 0)
-    words = frame.words_for(cell, used)
-    found = [facts.with_cell(row, step.place, word) for word in words[:-1]]
-    return found + [facts.with_fresh(group).with_cell(row, step.place, words[-1])]
+    group = frame.group(cell)
+    found = []
+    for word in frame.words_for(cell, facts.used.get(group, {})):
+        known = facts.with_cell(row, step.place, word)
+        found.append(known if group is None else known.with_word(group, word))
+    return found
 
 
 def _answered(facts, walk, chosen):

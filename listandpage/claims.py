@@ -2,13 +2,13 @@
 
 A claim is asked in a world: of a store, in which all is known, or of facts, in which
 some is. The answer is True if it is settled that it holds, False if it is settled that
-it does not, and otherwise the fact that it waits for, a tuple. That a question is
+it does not, and otherwise a tuple of the facts that it waits for. That a question is
 unknown is settled where neither of its two claims holds.
 """
 
 
 def inverted(told):
-    """The opposite of what is settled; a fact stays."""
+    """The opposite of what is settled; facts stay."""
     return told if isinstance(told, tuple) else not told
 
 
@@ -22,15 +22,14 @@ class Join:
     def claim(self, world, chosen, wanted):
         """Whether it is true, or false, as wanted."""
         decisive = wanted != self.every
-        waiting = None
+        waiting = ()
         for part in self.parts:
             told = part.claim(world, chosen, wanted)
-            if not isinstance(told, tuple):
-                if told == decisive:
-                    return decisive
-            elif waiting is None:
-                waiting = told
-        return not decisive if waiting is None else waiting
+            if isinstance(told, tuple):
+                waiting = waiting + told
+            elif told == decisive:
+                return decisive
+        return waiting if waiting else not decisive
 
     def moved(self, move):
         """The same where the right is used."""
@@ -98,7 +97,9 @@ class Use:
         told = self.root.claim(world, chosen, True)
         if not wanted:
             told = inverted(told)
-        return value if isinstance(value, tuple) and told is not False else told
+        if told is False or not isinstance(value, tuple):
+            return told
+        return value if told is True else value + told
 
     def moved(self, move):
         """The same where the right is used."""
@@ -187,6 +188,11 @@ def compares(number, sign, other):
     return number > other or (sign == ">=" and number == other)
 
 
+def waiting_for(one, two):
+    """The facts that two values wait for, if they are not values yet."""
+    return (one if isinstance(one, tuple) else ()) + (two if isinstance(two, tuple) else ())
+
+
 class EqualTest:
     """Whether two paths of a question end in the same; unknown where one of them lacks."""
 
@@ -202,9 +208,7 @@ class EqualTest:
         two = self.other.follow(world, chosen)
         if two is None:
             return False
-        if isinstance(one, tuple):
-            return one
-        return two if isinstance(two, tuple) else (one == two) == wanted
+        return waiting_for(one, two) or (one == two) == wanted
 
     def moved(self, move):
         """The same where the right is used."""
@@ -221,10 +225,8 @@ class SameTest:
     def claim(self, world, chosen, wanted):
         """Whether it is true, or false, as wanted."""
         one = self.left.follow(world, chosen)
-        if isinstance(one, tuple):
-            return one
         two = self.other.follow(world, chosen)
-        return two if isinstance(two, tuple) else (one == two) == wanted
+        return waiting_for(one, two) or (one == two) == wanted
 
     def moved(self, move):
         """The same where the right is used."""

@@ -3,7 +3,7 @@
 from listandpage.basics import is_word
 from listandpage.bodies import Body
 from listandpage.claims import Constant, FlagTest, Join, LackTest, NumberTest, Opposite, Use, WordTest
-from listandpage.paths import THING, Move
+from listandpage.paths import Move
 from listandpage.routes import find_route
 from listandpage.syntax import Denied, Joined, Truth, Used, Walked
 from listandpage.tokens import Fault
@@ -86,8 +86,6 @@ class Fitter:
         self.weigh(len(node.trail.tokens) + body.once, scope)
         self.twice += body.twice
         self.notes.extend(body.notes)
-        if route.path.origin == THING and route.path.steps == () and not scope.around:
-            return Use(route.path, body.root)
         return Use(route.path, body.root.moved(Move(route.path, len(scope.around))))
 
     def fit_test(self, test, scope):
@@ -111,9 +109,9 @@ class Fitter:
     def note(self, test, left):
         """Note the words or the number that a path is compared with."""
         if test.form == "number":
-            self.notes.append(("number", left.spot, test.other))
-        words = {"word": [test.other], "words": test.other}.get(test.form, [])
-        self.notes.extend([("word", left.spot, word) for word in words])
+            self.notes.append(("number", left.spot, (test.sign, test.other)))
+        if test.form == "words":
+            self.notes.append(("words", left.spot, tuple(test.other)))
 
     def note_alike(self, left, other):
         """Note that two paths are compared, if they end in words."""
@@ -125,7 +123,7 @@ def _fits(form, left, other):
     """Whether a path without a list fits what stands beside it in a test."""
     if form == "paths":
         return other.link is None and left.meets(other)
-    if form in ("word", "words"):
+    if form == "words":
         return left.ends == "word"
     return form == "lacks" or left.ends == form
 
@@ -138,4 +136,4 @@ def _lone_test(test, path):
         return LackTest(path)
     if test.form == "number":
         return NumberTest(path, test.sign, test.other)
-    return WordTest(path, [test.other] if test.form == "word" else test.other)
+    return WordTest(path, test.other)

@@ -1,8 +1,10 @@
 """Frames: which values are to be told apart in the cells that tests compare.
 
-Notes tell what tests compare: ("word", cell, word), ("number", cell, number) and
+Notes tell what tests compare: ("words", cell, words), ("number", cell, (sign, number)) and
 ("alike", cell, cell). A cell is a pair of a table and a column.
 """
+
+from listandpage.claims import compares
 
 LETTERS = "abcdefghijklmnopqrstuvwxyz"
 
@@ -13,30 +15,41 @@ class Frame:
     def __init__(self, schema, notes):
         self.schema = schema
         self.groups = find_groups(notes)
-        self.written = find_written(notes, self.groups)
-        self.compared = find_compared(notes)
+        self.sorts = find_sorts(notes, self.groups)
+        self.compared = gathered([note for note in notes if note[0] == "number"], {})
         known = words_of(notes)
         # More words than these are not needed, as no store has so many rows.
         self.spare = [one + two for one in LETTERS for two in LETTERS if one + two not in known]
 
+    def group(self, cell):
+        """What a cell is compared with: a cell of its group, None if it is compared with no other one."""
+        return self.groups.get(cell)
+
     def words_for(self, cell, used):
-        """The words to be told apart in a cell, if so many that are not written are in use in its group."""
-        group = self.groups.get(cell, cell)
-        many = used + 1 if cell in self.groups else 1
-        return self.written.get(group, []) + self.spare[:many]
+        """The words to be told apart in a cell, where some are in use in its group.
+
+        Of the words of one sort only those that are in use differ from one another.
+        """
+        found = []
+        for words in self.sorts.get(self.groups.get(cell, cell), []) + [self.spare]:
+            unused = [word for word in words if word not in used]
+            found = found + [word for word in words if word in used] + unused[:1]
+        return found
 
     def numbers_for(self, cell):
-        """A number for each way to be one of those that are written, or to lie between them."""
-        known = self.compared.get(cell, [])
-        found = [known[0] - 1] if known else [0]
-        for number in known:
-            found = found + [each for each in (number, number + 1) if each not in found]
-        return found
+        """A number for each way in which the tests can come out."""
+        tests = self.compared.get(cell, [])
+        found = {}
+        for number in [0] + [test[1] + more for test in tests for more in (-1, 0, 1)]:
+            told = tuple([compares(number, test[0], test[1]) for test in tests])
+            if told not in found:
+                found[told] = number
+        return list(found.values())
 
 
 def words_of(notes):
     """The written words, as the keys of a dict."""
-    return {note[2]: True for note in notes if note[0] == "word"}
+    return {word: True for note in notes if note[0] == "words" for word in note[2]}
 
 
 def find_groups(notes):
@@ -52,24 +65,23 @@ def find_groups(notes):
     return groups
 
 
-def find_written(notes, groups):
-    """For each group the words that are compared with one of its cells."""
-    written = {}
+def gathered(notes, groups):
+    """What the notes tell behind their cells, by the groups of these."""
+    found = {}
     for note in notes:
-        if note[0] == "word":
-            group = groups.get(note[1], note[1])
-            known = written.get(group, [])
-            written[group] = known if note[2] in known else known + [note[2]]
-    return written
+        group = groups.get(note[1], note[1])
+        found[group] = found.get(group, []) + [note[2]]
+    return found
 
 
-def find_compared(notes):
-    """For each cell the numbers that are compared with it, ascending."""
-    compared = {}
-    for note in notes:
-        if note[0] == "number":
-            known = compared.get(note[1], [])
-            less = [number for number in known if number < note[2]]
-            more = [number for number in known if number > note[2]]
-            compared[note[1]] = less + [note[2]] + more
-    return compared
+def find_sorts(notes, groups):
+    """For each group its written words in lists: those that the same tests name are of one sort."""
+    tests = gathered([note for note in notes if note[0] == "words"], groups)
+    found = {}
+    for group in tests:
+        sorts = {}
+        for word in {word: True for words in tests[group] for word in words}:
+            told = tuple([word in words for words in tests[group]])
+            sorts[told] = sorts.get(told, []) + [word]
+        found[group] = list(sorts.values())
+    return found

@@ -23,7 +23,7 @@ class Path:
         self.steps = steps
 
     def follow(self, world, chosen):
-        """What the path ends in in a world: a value, None if it lacks, or the fact that it waits for."""
+        """What the path ends in in a world: a value, None if it lacks, or a tuple with the fact that it waits for."""
         value = chosen[self.origin]
         for step in self.steps:
             value = world.cell(step, value)

@@ -122,7 +122,7 @@ class Reader:
     def read_equal(self, left, denied):
         """What a path is compared with: a word, a number or a path."""
         if is_word_token(self.ahead()):
-            return Asked(left, "word", "=", self.read_word(), denied)
+            return Asked(left, "words", "=", [self.read_word()], denied)
         if is_digits(self.ahead()):
             return Asked(left, "number", "=", self.read_number(), denied)
         return Asked(left, "paths", "=", self.read_path(), denied)

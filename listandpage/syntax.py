@@ -11,8 +11,8 @@ class Trail:
 class Asked:
     """A test. Its form tells what stands beside the path on the left.
 
-    "flag" and "lacks" (nothing), "paths" (a path), "word", "number", "words",
-    "list" (a path with a list) and "looped" (square brackets).
+    "flag" and "lacks" (nothing), "paths" (a path), "words" (written words, one or more),
+    "number", "list" (a path with a list) and "looped" (square brackets).
     """
 
     def __init__(self, left, form, sign, other, denied):

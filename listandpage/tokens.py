@@ -48,7 +48,7 @@ def _size(text, at):
         return end - at
     if text[at] == "'":
         end = text.find("'", at + 1)
-        return end + 1 - at if is_word(text[at + 1:max(end, 0)]) else 1
+        return end + 1 - at if end > at and is_word(text[at + 1:end]) else 1
     return 2 if text[at:at + 2] in PAIRS else 1
 
 

@@ -19,10 +19,15 @@ class Walk:
         base = self.base.follow(world, chosen)
         if base is None or isinstance(base, tuple):
             return False if base is None else base
+        waiting = ()
         for row in world.linked(self.link, base):
-            if self.content.claim(world, chosen + (row,), True) is True:
+            counts = self.content.claim(world, chosen + (row,), True)
+            if counts is True:
                 return True
-        return world.missing(self, chosen)
+            if isinstance(counts, tuple):
+                waiting = waiting + counts
+        missing = world.missing(self, chosen)
+        return missing + waiting if isinstance(missing, tuple) else missing
 
     def moved(self, move):
         """The same where the right is used."""

@@ -3,6 +3,10 @@
 import inspect
 import unittest
 
+from listandpage import rights
+from listandpage.checks import Check
+from listandpage.questions import Question
+from listandpage.rights import Listing, Right, all_of, any_of, everything, nothing
 from listandpage.schemas import Schema
 from listandpage.stores import Store
 from tests.samples import EXAMPLE, EXAMPLE_TABLES, example, example_rows
@@ -24,11 +28,34 @@ STORE_METHODS = {
     "part": ["self", "kept"],
     "printed": ["self", "table"],
 }
+RIGHT_METHODS = {
+    "admits": ["self", "store", "thing", "user"],
+    "__call__": ["self", "store", "user"],
+    "walks": ["self"],
+    "weight": ["self"],
+    "filled": ["self"],
+    "__and__": ["self", "other"],
+    "__or__": ["self", "other"],
+    "__sub__": ["self", "other"],
+    "__invert__": ["self"],
+    "__le__": ["self", "other"],
+    "__lt__": ["self", "other"],
+    "__eq__": ["self", "other"],
+}
+SPELLED_METHODS = {"__init__": ["self", "schema", "table", "text", "uses"], "tests": ["self"], "__str__": ["self"]}
+QUESTION_METHODS = {**SPELLED_METHODS, "value": ["self", "store", "thing", "user"]}
+FUNCTIONS = {
+    "any_of": ["first", "rest"],
+    "all_of": ["first", "rest"],
+    "nothing": ["schema", "table"],
+    "everything": ["schema", "table"],
+}
 
 
 class InterfaceTest(unittest.TestCase):
     def test_methods_are_defined_in_the_class_itself(self):
-        for made, methods in ((Schema, SCHEMA_METHODS), (Store, STORE_METHODS)):
+        for made, methods in ((Schema, SCHEMA_METHODS), (Store, STORE_METHODS), (Right, RIGHT_METHODS),
+                              (Question, QUESTION_METHODS), (Check, SPELLED_METHODS)):
             for name, parameters in methods.items():
                 self.assertIn(name, vars(made))
                 self.assertEqual(list(inspect.signature(getattr(made, name)).parameters), parameters)
@@ -36,12 +63,58 @@ class InterfaceTest(unittest.TestCase):
             self.assertIn(name, vars(Schema))
         for name in ("__len__", "__contains__", "__eq__"):
             self.assertIn(name, vars(Store))
+        for name in ("__len__", "__contains__", "__iter__"):
+            self.assertIn(name, vars(Listing))
         self.assertIs(type(vars(Schema)["read"]), classmethod)
         self.assertIs(type(vars(Schema)["is_name"]), staticmethod)
 
     def test_classes_are_defined_in_their_files(self):
         self.assertEqual(Schema.__module__, "listandpage.schemas")
         self.assertEqual(Store.__module__, "listandpage.stores")
+        self.assertEqual(Right.__module__, "listandpage.rights")
+        self.assertEqual(Listing.__module__, "listandpage.rights")
+        self.assertEqual(Question.__module__, "listandpage.questions")
+        self.assertEqual(Check.__module__, "listandpage.checks")
+        self.assertTrue(issubclass(Question, Right) and issubclass(Check, Right))
+
+    def test_functions(self):
+        for name, parameters in FUNCTIONS.items():
+            function = getattr(rights, name)
+            self.assertEqual(function.__module__, "listandpage.rights")
+            self.assertEqual(list(inspect.signature(function).parameters), parameters)
+
+    def test_uses_are_passed_by_name_only(self):
+        for made, text in ((Question, "true"), (Check, "return True")):
+            parameter = inspect.signature(made).parameters["uses"]
+            self.assertIs(parameter.kind, inspect.Parameter.KEYWORD_ONLY)
+            self.assertIsNone(parameter.default)
+            with self.assertRaises(TypeError):
+                made(example(), "doc", text, {})
+            self.assertEqual(made(example(), "doc", text, uses=None).weight(), 1)
+
+    def test_attributes_are_set_on_each_object(self):
+        made = Question(example(), "doc", "true")
+        for right in (made, Check(example(), "doc", "return True"), ~made, any_of(made), made.filled()):
+            self.assertLessEqual({"schema", "table"}, set(vars(right)))
+        for right in (made, Check(example(), "doc", "return True")):
+            self.assertIn("text", vars(right))
+        store = Store(example(), example_rows())
+        self.assertIn("things", vars(made(store, 0)))
+        self.assertEqual(vars(Right)["MOST"], 100)
+
+    def test_rights_by_name(self):
+        schema = example()
+        store = Store(schema, example_rows())
+        question = Question(text="a(thing.team)", table="doc", schema=schema, uses={"a": everything(schema, "team")})
+        check = Check(text="return a(thing.team)", schema=schema, uses={"a": everything(schema, "team")}, table="doc")
+        self.assertIsNone(question.value(user=0, thing=0, store=store))
+        self.assertIs(question.value(store=store, user=0, thing=1), True)
+        for right in (question, check, all_of(first=question), any_of(first=check)):
+            self.assertIs(right.admits(user=0, thing=0, store=store), False)
+            self.assertIs(right.admits(thing=1, user=0, store=store), True)
+            self.assertEqual(right(user=0, store=store).things, (1,))
+        self.assertEqual(nothing(table="doc", schema=schema)(store=store, user=1).things, ())
+        self.assertEqual(everything(table="doc", schema=schema)(user=1, store=store).things, (0, 1))
 
     def test_schemas_by_name(self):
         schema = Schema(tables=EXAMPLE_TABLES, user="person")
