@@ -204,6 +204,26 @@ class MadeTest(unittest.TestCase):
                 self.assertIs(check.admits(store, thing, user), not made.admits(store, owner, user))
 
 
+class AllWaysTest(unittest.TestCase):
+    def test_all_ways_of_asking_agree(self):
+        for chance in chances(200):
+            schema = some_schema(chance)
+            table = chance.choice(schema.tables)
+            made = some_spelled(chance, schema, chance.choice(["question", "check"]), chance.randint(1, 4), table=table)
+            uses = {"it": made.right}
+            ways = [made.right, Question(schema, table, "it(thing)", uses=uses),
+                    Check(schema, table, "return it(thing)", uses=uses),
+                    Check(schema, table, "x = thing\nif not it(x):\n    return False\nreturn True", uses=uses),
+                    any_of(made.right), made.right & made.right, ~~made.right]
+            store = Store(schema, some_rows(chance, tables_of(schema), 3))
+            for user in range(len(store.rows(schema.user))):
+                things = range(len(store.rows(table)))
+                admitted = [thing for thing in things if made.value(store, thing, user) is True]
+                for way in ways:
+                    self.assertEqual(list(way(store, user)), admitted, made.text)
+                    self.assertEqual([thing for thing in things if way.admits(store, thing, user)], admitted, made.text)
+
+
 class ConstantTest(unittest.TestCase):
     def test_nothing_and_everything(self):
         store = Store(example(), example_rows())
