@@ -167,6 +167,28 @@ class SpellingsTest(unittest.TestCase):
         apart = "thing.nick != user.nick and user.nick != thing.org.name and thing.nick != thing.org.name"
         self.assertFalse(question(apart, "person", two) <= question("thing.nick = 'a'", "person", two))
 
+    def test_words_that_are_compared_through_others(self):
+        four = Schema("a", [("a", [("word", name, True) for name in "pqrs"])])
+        chain = "thing.p = thing.q and thing.r = thing.s and thing.q = thing.r"
+        self.assertFalse(question(chain + " and thing.s = 'a'", "a", four) == nothing(four, "a"))
+        self.assertTrue(question(chain + " and thing.s = 'a'", "a", four) <= question("thing.p = 'a'", "a", four))
+        self.assertFalse(question(chain, "a", four) <= question("thing.p = 'a'", "a", four))
+        self.alike(question(chain + " and thing.s != thing.p", "a", four), nothing(four, "a"))
+
+    def test_words_in_lists(self):
+        within = "thing.w in [m.w for m in user.bs]"
+        one = check(f"return {within} and thing.w == 'a'", table="b", schema=loose())
+        self.less(one, check(f"return {within} and thing.w is not None", table="b", schema=loose()))
+        self.less(one, check("return any(m.w == 'a' for m in user.bs)", table="b", schema=loose()))
+        self.less(question("thing.w in user.bs.w and thing.w = 'a'", "b", loose()),
+                  question("some user.bs as m (m.w = 'a')", "b", loose()))
+        # Words that differ, none of which is written.
+        filled = "any(True for n in user.bs) and all(o.w is not None for o in user.bs) and thing.w is not None"
+        apart = check("return thing.w not in [m.w for m in user.bs] and " + filled, table="b", schema=loose())
+        self.less(nothing(loose(), "b"), apart)
+        self.less(nothing(loose(), "b"), question("some user.bs as n (not n.w lacks) and thing.w not in user.bs.w "
+                                                  "and not thing.w lacks", "b", loose()))
+
     def test_numbers(self):
         level = "thing.level"
         self.alike(question(f"{level} > 3"), question(f"{level} >= 4"))

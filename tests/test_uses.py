@@ -19,6 +19,17 @@ def mates(schema=None):
     return Question(schema or example(), "person", "thing.team = user.team")
 
 
+def small_rows(chance):
+    """Rows of the deep tables, of which many are linked."""
+    return {
+        "org": [("a", True), ("b", False)],
+        "person": [(True, 0, "a"), (False, None, None)],
+        "team": [(chance.randrange(2), chance.choice([3, 4, 5])) for _ in range(3)],
+        "member": [(chance.choice([None, 0, 1, 2]), "x") for _ in range(4)],
+        "note": [(chance.randrange(4), chance.choice([None, 0, 1]), chance.choice([3, 4]), True) for _ in range(5)],
+    }
+
+
 class UseTest(unittest.TestCase):
     def values(self, text, uses, table="doc"):
         store = Store(example(), example_rows())
@@ -57,6 +68,30 @@ class UseTest(unittest.TestCase):
         walking = Question(example(), "team", "some thing.members as m (m.person = user)")
         self.assertEqual(self.values("w(thing.team) or w(user.team)", {"w": walking}),
                          [YES, NONE, NONE, YES, YES, NO])
+
+    def test_walks_of_a_used_right_within_walks(self):
+        noted = Question(deep(), "member", "some thing.notes as n (n.by = user and n.stars > 3)")
+        rated = Check(deep(), "team", "for m in thing.members:\n    if noted(m) and thing.size > 4:\n        return True",
+                      uses={"noted": noted})
+        pairs = [
+            ("some thing.teams as t (some t.members as m (noted(m)))",
+             "some thing.teams as t (some t.members as m (some m.notes as n (n.by = user and n.stars > 3)))"),
+            ("some thing.teams as t (not rated(t) and t.size > 3)",
+             "some thing.teams as t (t.size > 3 and (t.size <= 4 or no t.members as m ("
+             "some m.notes as n (n.by = user and n.stars > 3))))"),
+        ]
+        admitted = []
+        for used, written in pairs:
+            one = Question(deep(), "org", used, uses={"noted": noted, "rated": rated})
+            two = Question(deep(), "org", written)
+            check = Check(deep(), "org", "return w(thing)", uses={"w": one})
+            for chance in chances(60):
+                store = Store(deep(), small_rows(chance))
+                for pair in pairs_of(store, "org"):
+                    admitted.append(two.admits(store, *pair))
+                    self.assertIs(one.admits(store, *pair), admitted[-1], used)
+                    self.assertIs(check.admits(store, *pair), admitted[-1], used)
+        self.assertGreater(min(admitted.count(True), admitted.count(False)), 30)
 
     def test_names_may_stand_for_other_things_too(self):
         text = "some thing.team.members as mate (mate.person = user) or mate(thing.owner) and thing.team = thing.team"
