@@ -10,7 +10,10 @@ from listandpage.tokens import Fault
 
 
 class Fitter:
-    """Goes through a text from left to right; the first thing that does not fit is the fault."""
+    """Goes through a text from left to right; the first thing that does not fit is the fault.
+
+    The classes below tell by sealed, equal, fit_walk and fit_other what differs in the two languages.
+    """
 
     def __init__(self, schema, uses):
         self.schema = schema
@@ -102,7 +105,7 @@ class Fitter:
         return self.equal(left.path, other.path)
 
     def need_list(self, head, scope, token):
-        """Take the path of the head of a walk, which must end with a list; its names are checked."""
+        """Take the path of the head of a walk, of which only the names are checked: it must end with a list."""
         self.require(head.is_head(), token)
         self.nest([head.table], scope, token)
 

@@ -7,7 +7,10 @@ ORDERS = ("<", "<=", ">", ">=")
 
 
 class Reader:
-    """Reads tokens from left to right; the first one that is not allowed is the fault."""
+    """Reads tokens from left to right; the first one that is not allowed is the fault.
+
+    The classes below read by read_walk, read_within and read_ending what differs in the two languages.
+    """
 
     EQUAL = "="
     TRUE = "true"
