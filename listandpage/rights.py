@@ -29,8 +29,11 @@ class Right:
         """The list of a user: the things that it admits to the user."""
         self.need_place(store, [(self.schema.user, user)])
         world = StoreWorld(store)
-        things = range(len(store.rows(self.table)))
-        return Listing([thing for thing in things if self.body.root.claim(world, (thing, user), True)])
+        found = []
+        for thing in range(len(store.rows(self.table))):
+            if self.body.root.claim(world, (thing, user), True):
+                found.append(thing)
+        return Listing(found)
 
     def need_place(self, store, pairs):
         """Raise an error unless the store has this schema and these rows, pairs of tables and any values."""
