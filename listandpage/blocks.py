@@ -33,6 +33,10 @@ class Block:
         """The same where the right is used."""
         return Block([statement.moved(move) for statement in self.statements])
 
+    def walks_inside(self, around):
+        """The walks in it, each with those around it, in the order of the text."""
+        return [found for statement in self.statements for found in statement.walks_inside(around)]
+
 
 def _followed(known, behind):
     """What is known of statements that can run to their end, with the one behind them."""
@@ -40,10 +44,31 @@ def _followed(known, behind):
     return joined(words, behind[0], known[1] + behind[1])
 
 
+class Named:
+    """A path that got a name; what the name means stands where it is used."""
+
+    def __init__(self, line, path):
+        self.line = line
+        self.path = path
+
+    def outcome(self, world, chosen):
+        """The outcomes that it can have."""
+        return END
+
+    def moved(self, move):
+        """The same where the right is used."""
+        return Named(self.line, self.path.moved(move))
+
+    def walks_inside(self, around):
+        """The walks in it: there are none."""
+        return []
+
+
 class If:
     """A test, and the block that is run where it is true, and where it is false."""
 
-    def __init__(self, test, block, otherwise):
+    def __init__(self, line, test, block, otherwise):
+        self.line = line
         self.test = test
         self.block = block
         self.otherwise = otherwise
@@ -61,13 +86,19 @@ class If:
 
     def moved(self, move):
         """The same where the right is used."""
-        return If(self.test.moved(move), self.block.moved(move), self.otherwise.moved(move))
+        return If(self.line, self.test.moved(move), self.block.moved(move), self.otherwise.moved(move))
+
+    def walks_inside(self, around):
+        """The walks in it, each with those around it, in the order of the text."""
+        walks = self.test.walks_inside(around) + self.block.walks_inside(around)
+        return walks + self.otherwise.walks_inside(around)
 
 
 class Return:
     """The end of a check, with the truth of a test."""
 
-    def __init__(self, test):
+    def __init__(self, line, test):
+        self.line = line
         self.test = test
 
     def outcome(self, world, chosen):
@@ -79,13 +110,18 @@ class Return:
 
     def moved(self, move):
         """The same where the right is used."""
-        return Return(self.test.moved(move))
+        return Return(self.line, self.test.moved(move))
+
+    def walks_inside(self, around):
+        """The walks in it, each with those around it."""
+        return self.test.walks_inside(around)
 
 
 class For:
     """A walk whose rows count if the block returns for them, and what it returns: None if it never does."""
 
-    def __init__(self, walk, truth):
+    def __init__(self, line, walk, truth):
+        self.line = line
         self.walk = walk
         self.truth = truth
 
@@ -101,7 +137,11 @@ class For:
 
     def moved(self, move):
         """The same where the right is used."""
-        return For(self.walk.moved(move), self.truth)
+        return For(self.line, self.walk.moved(move), self.truth)
+
+    def walks_inside(self, around):
+        """The walks in it, each with those around it."""
+        return self.walk.walks_inside(around)
 
 
 class Returning:
@@ -121,6 +161,10 @@ class Returning:
         """The same where the right is used."""
         return Returning(self.block.moved(move))
 
+    def walks_inside(self, around):
+        """The walks in it, each with those around it."""
+        return self.block.walks_inside(around)
+
 
 class Program:
     """A whole check: whether it returns True."""
@@ -138,3 +182,7 @@ class Program:
     def moved(self, move):
         """The same where the right is used."""
         return Program(self.block.moved(move))
+
+    def walks_inside(self, around):
+        """The walks in it, each with those around it."""
+        return self.block.walks_inside(around)

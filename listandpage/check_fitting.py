@@ -1,6 +1,6 @@
 """Fitting the texts of checks."""
 
-from listandpage.blocks import Block, For, If, Program, Return, Returning
+from listandpage.blocks import Block, For, If, Named, Program, Return, Returning
 from listandpage.claims import Certain, Opposite, SameTest
 from listandpage.fitting import Fitter
 from listandpage.syntax import Branching, Looping, Naming, Super
@@ -74,19 +74,21 @@ class CheckFitter(Fitter):
         fitted = []
         for statement in statements:
             if isinstance(statement, Naming):
-                scope = self.fit_naming(statement, scope)
+                route = self.fit_naming(statement, scope)
+                fitted.append(Named(statement.name.line, route.path))
+                scope = scope.naming(statement.name.text, route.path, route.table)
             else:
                 fitted.append(self.fit_statement(statement, scope))
         return Block(fitted)
 
     def fit_naming(self, statement, scope):
-        """The scope behind a `NAME = path`."""
+        """Where the path of `NAME = path` leads."""
         name = statement.name
         self.take_name(name)
         route = self.route_of(statement.trail, scope)
         self.require(route.is_plain("row"), name)
         self.weigh(len(statement.trail.tokens) - 1, scope)
-        return scope.naming(name.text, route.path, route.table)
+        return route
 
     def fit_statement(self, statement, scope):
         """What any other statement means."""
@@ -96,10 +98,10 @@ class CheckFitter(Fitter):
         if isinstance(statement, Branching):
             block = self.fit_block(statement.block, scope)
             otherwise = [] if statement.otherwise is None else statement.otherwise
-            return If(test, block, self.fit_block(otherwise, scope))
+            return If(statement.line, test, block, self.fit_block(otherwise, scope))
         if scope.around:
             self.fit_return(statement)
-        return Return(test)
+        return Return(statement.word.line, test)
 
     def fit_return(self, statement):
         """Check whether a `return` may stand within a `for`."""
@@ -118,4 +120,4 @@ class CheckFitter(Fitter):
         self.weigh(len(statement.head.tokens) - 1, scope)
         block = self.fit_block(statement.block, scope.inside(statement.name.text, head.table))
         truth = self.given if self.returns > before else None
-        return For(Walk(head.path, head.link, Returning(block)), truth)
+        return For(statement.word.line, Walk(head.path, head.link, Returning(block)), truth)

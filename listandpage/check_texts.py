@@ -61,10 +61,11 @@ class LineReader(Reader):
 
     def read_statement(self):
         """A statement without its block, other than `else`."""
-        if self.takes("if"):
+        if self.ahead() == "if":
+            word = self.step()
             test = self.read_joined()
             self.skip(":")
-            return Branching(test)
+            return Branching(word.line, test)
         if self.ahead() == "for":
             word = self.tokens[self.place]
             name, head = self.read_head()

@@ -12,6 +12,14 @@ def inverted(told):
     return told if isinstance(told, tuple) else not told
 
 
+class Lone:
+    """What has no parts, and so no walks. It is never made itself, only the classes below it."""
+
+    def walks_inside(self, around):
+        """The walks in it, each with those around it."""
+        return []
+
+
 class Join:
     """Parts of which every one, or at least one, is to be true."""
 
@@ -35,6 +43,10 @@ class Join:
         """The same where the right is used."""
         return Join([part.moved(move) for part in self.parts], self.every)
 
+    def walks_inside(self, around):
+        """The walks in it, each with those around it, in the order of the text."""
+        return [found for part in self.parts for found in part.walks_inside(around)]
+
 
 class Opposite:
     """True where the inner one is false, and the other way round."""
@@ -49,6 +61,10 @@ class Opposite:
     def moved(self, move):
         """The same where the right is used."""
         return Opposite(self.inner.moved(move))
+
+    def walks_inside(self, around):
+        """The walks in it, each with those around it."""
+        return self.inner.walks_inside(around)
 
 
 class Certain:
@@ -66,8 +82,12 @@ class Certain:
         """The same where the right is used."""
         return Certain(self.inner.moved(move))
 
+    def walks_inside(self, around):
+        """The walks in it, each with those around it."""
+        return self.inner.walks_inside(around)
 
-class Constant:
+
+class Constant(Lone):
     """Always true or always false."""
 
     def __init__(self, truth):
@@ -105,8 +125,12 @@ class Use:
         """The same where the right is used."""
         return Use(self.path.moved(move), self.root.moved(move))
 
+    def walks_inside(self, around):
+        """The walks in it, each with those around it."""
+        return self.root.walks_inside(around)
 
-class LackTest:
+
+class LackTest(Lone):
     """Whether a path lacks."""
 
     def __init__(self, path):
@@ -122,7 +146,7 @@ class LackTest:
         return LackTest(self.path.moved(move))
 
 
-class FlagTest:
+class FlagTest(Lone):
     """Whether a flag is True; unknown where its path lacks."""
 
     def __init__(self, path):
@@ -140,7 +164,7 @@ class FlagTest:
         return FlagTest(self.path.moved(move))
 
 
-class WordTest:
+class WordTest(Lone):
     """Whether a word is one of those written; unknown where its path lacks."""
 
     def __init__(self, path, words):
@@ -159,7 +183,7 @@ class WordTest:
         return WordTest(self.path.moved(move), self.words)
 
 
-class NumberTest:
+class NumberTest(Lone):
     """How a number compares with the one written; unknown where its path lacks."""
 
     def __init__(self, path, sign, number):
@@ -172,7 +196,7 @@ class NumberTest:
         value = self.path.follow(world, chosen)
         if value is None or isinstance(value, tuple):
             return False if value is None else value
-        return compares(value, self.sign, self.number) == wanted
+        return compares(value, self.sign, self.number * world.SCALE) == wanted
 
     def moved(self, move):
         """The same where the right is used."""
@@ -193,7 +217,7 @@ def waiting_for(one, two):
     return (one if isinstance(one, tuple) else ()) + (two if isinstance(two, tuple) else ())
 
 
-class EqualTest:
+class EqualTest(Lone):
     """Whether two paths of a question end in the same; unknown where one of them lacks."""
 
     def __init__(self, left, other):
@@ -215,7 +239,7 @@ class EqualTest:
         return EqualTest(self.left.moved(move), self.other.moved(move))
 
 
-class SameTest:
+class SameTest(Lone):
     """Whether two paths of a check end in the same; None is the same as None."""
 
     def __init__(self, left, other):

@@ -35,7 +35,8 @@ def fewest_branches(frame, facts, asked, roots):
     """The open branches of the fact that leaves fewest of them."""
     least = None
     for fact in asked:
-        found = still_open(branches(frame, facts, fact), roots)
+        known = [pair[1] for pair in branches(frame, facts, fact) if pair[1] is not None]
+        found = still_open(known, roots)
         if least is None or len(found) < len(least):
             least = found
         if len(least) < 2:

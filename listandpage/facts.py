@@ -11,6 +11,9 @@ class Facts:
     one another, the words that stand there, as the keys of a dict.
     """
 
+    # Numbers stand here twice as large, so that there is one between any two that are written.
+    SCALE = 2
+
     def __init__(self, start, named, cells, answers, used):
         self.start = start
         self.named = named
@@ -42,13 +45,13 @@ class Facts:
 
     def with_cell(self, row, place, value):
         """The same and what stands in a cell."""
-        cells = {key: self.cells[key] for key in self.cells}
+        cells = dict(self.cells)
         cells[(row, place)] = value
         return Facts(self.start, self.named, cells, self.answers, self.used)
 
     def with_word(self, group, word):
         """The same and a word that stands in a group of cells."""
-        used = {key: self.used[key] for key in self.used}
+        used = dict(self.used)
         used[group] = {**used.get(group, {}), word: True}
         return Facts(self.start, self.named, self.cells, self.answers, used)
 
@@ -58,7 +61,7 @@ class Facts:
 
     def with_answer(self, walk, chosen, row):
         """The same and a row that counts for a walk, or None: that no row does."""
-        answers = {key: self.answers[key] for key in self.answers}
+        answers = dict(self.answers)
         answers[(walk, chosen)] = row
         return Facts(self.start, self.named, self.cells, answers, self.used)
 

@@ -5,6 +5,7 @@ Notes tell what tests compare: ("words", cell, words), ("number", cell, (sign, n
 """
 
 from listandpage.claims import compares
+from listandpage.facts import Facts
 
 LETTERS = "abcdefghijklmnopqrstuvwxyz"
 
@@ -37,14 +38,18 @@ class Frame:
         return found
 
     def numbers_for(self, cell):
-        """A number for each way in which the tests can come out."""
+        """A number, as facts have it, for each way in which the tests can come out."""
         tests = self.compared.get(cell, [])
         found = {}
         for number in [0] + [test[1] + more for test in tests for more in (-1, 0, 1)]:
-            told = tuple([compares(number, test[0], test[1]) for test in tests])
+            told = self.compared_with(cell, number * Facts.SCALE)
             if told not in found:
-                found[told] = number
+                found[told] = number * Facts.SCALE
         return list(found.values())
+
+    def compared_with(self, cell, number):
+        """How the tests come out for a number in a cell, as facts have it."""
+        return tuple([compares(number, sign, other * Facts.SCALE) for sign, other in self.compared.get(cell, [])])
 
 
 def words_of(notes):

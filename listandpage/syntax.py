@@ -81,9 +81,10 @@ class Super:
 
 
 class Branching:
-    """`if` with its test, its block, and that of its `else`, None without one."""
+    """`if` with its line, its test, its block, and that of its `else`, None without one."""
 
-    def __init__(self, test):
+    def __init__(self, line, test):
+        self.line = line
         self.test = test
         self.block = []
         self.otherwise = None

@@ -33,6 +33,15 @@ class Walk:
         """The same where the right is used."""
         return Walk(self.base.moved(move), self.link, self.content.moved(move))
 
+    def walks_inside(self, around):
+        """The walk and those in it, each with those around it."""
+        return [(self, around)] + self.content.walks_inside(around + (self,))
+
+    def list_of(self, world, chosen):
+        """The rows of the list in a store."""
+        base = self.base.follow(world, chosen)
+        return [] if base is None else world.linked(self.link, base)
+
 
 class Some:
     """Whether some row of a list counts."""
@@ -48,6 +57,10 @@ class Some:
     def moved(self, move):
         """The same where the right is used."""
         return Some(self.walk.moved(move))
+
+    def walks_inside(self, around):
+        """The walks in it, each with those around it."""
+        return self.walk.walks_inside(around)
 
 
 class Within:
@@ -66,3 +79,7 @@ class Within:
     def moved(self, move):
         """The same where the right is used."""
         return Within(self.making.moved(move), self.keeping.moved(move))
+
+    def walks_inside(self, around):
+        """Its two walks, each with those around it."""
+        return self.making.walks_inside(around) + self.keeping.walks_inside(around)

@@ -4,6 +4,9 @@
 class StoreWorld:
     """A store as claims ask it."""
 
+    # Numbers stand in it as they are.
+    SCALE = 1
+
     def __init__(self, store):
         self.kept = {table: store.rows(table) for table in store.schema.tables}
 

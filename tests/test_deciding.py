@@ -4,6 +4,7 @@ import time
 import unittest
 
 from listandpage.checks import Check
+from listandpage.facts import Facts
 from listandpage.deciding import find_escape
 from listandpage.errors import ListandpageError, Mismatch, TooMany
 from listandpage.questions import Question
@@ -67,6 +68,8 @@ class Filling:
     def value(self, row, place, column):
         known = self.facts.cells.get((row, place), "unknown")
         if known != "unknown" or (row, place) in self.facts.cells:
+            if column[0] == "number":
+                return known // Facts.SCALE
             return self.numbers[known] if column[0] == "link" and known is not None else known
         if column[0] == "flag":
             return False
