@@ -37,6 +37,13 @@ class Frame:
             found = found + [word for word in words if word in used] + unused[:1]
         return found
 
+    def stand_in(self, cell, word, used):
+        """Of the words to be told apart in a cell that of the sort of a word, where the word is not in use."""
+        for words in self.sorts.get(self.groups.get(cell, cell), []) + [self.spare]:
+            if word in words or words == self.spare:
+                return [other for other in words if other not in used][0]
+        return None
+
     def numbers_for(self, cell):
         """A number, as facts have it, for each way in which the tests can come out."""
         tests = self.compared.get(cell, [])

@@ -4,7 +4,7 @@ from listandpage.basics import is_index
 from listandpage.columns import is_link, may_lack
 from listandpage.deciding import claims_on_answers
 from listandpage.facts import Facts, first_facts
-from listandpage.frames import gathered, words_of
+from listandpage.frames import words_of
 from listandpage.routes import find_step
 
 
@@ -47,8 +47,8 @@ class Cases:
         self.table = pair.table
         self.places = pair.places
         self.roots = pair.roots
-        self.words = sorted([str(word) for word in words_of(pair.notes)])
-        self.compared = gathered([note for note in pair.notes if note[0] == "number"], {})
+        self.notes = pair.notes
+        self.words = written_words(pair.notes)
 
     def first_cases(self):
         """What is known at first: one case, or two where thing and user may be one row."""
@@ -99,12 +99,10 @@ class Cases:
 
     def number_behind(self, case, row, step):
         """The cases behind the question for a number."""
-        told = [other for _, other in self.compared.get((step.table, step.column), [])]
-        written = sorted([int(number) for number in {other: True for other in told}])
-        behind = [case.with_cell(row, step.place, number) for number in number_answers(written)]
-        for at, number in enumerate(written[1:]):
-            if number == written[at] + 1:
-                behind[2 * at + 2] = behind[2 * at + 2].clashing()
+        behind = []
+        for number, gap in number_answers(written_numbers(self.notes, (step.table, step.column))):
+            known = case.with_cell(row, step.place, number)
+            behind.append(known.clashing() if gap else known)
         return behind
 
     def some_behind(self, case, tree):
@@ -129,11 +127,23 @@ class Cases:
         return behind + [counting(grown, walk, chosen, len(facts.named), base)]
 
 
+def written_words(notes):
+    """The written words, ascending."""
+    return sorted([str(word) for word in words_of(notes)])
+
+
+def written_numbers(notes, cell):
+    """The numbers that tests compare with a cell, ascending."""
+    found = {note[2][1]: True for note in notes if note[0] == "number" and note[1] == cell}
+    return sorted([int(number) for number in found])
+
+
 def number_answers(written):
-    """For some numbers, ascending, these and one beside each, as facts have them."""
-    answers = [Facts.SCALE * written[0] - 1] if written else [0]
+    """A number, as facts have it, for each answer where some numbers are written; and whether there is none such."""
+    answers = [(Facts.SCALE * written[0] - 1, False)] if written else [(0, False)]
     for number in written:
-        answers.extend([Facts.SCALE * number, Facts.SCALE * number + 1])
+        answers.append((Facts.SCALE * number, False))
+        answers.append((Facts.SCALE * number + 1, number + 1 in written))
     return answers
 
 
