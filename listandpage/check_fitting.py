@@ -3,15 +3,20 @@
 from listandpage.blocks import Block, For, If, Named, Program, Return, Returning
 from listandpage.claims import Certain, Opposite, SameTest
 from listandpage.fitting import Fitter
+from listandpage.scopes import first_scope
 from listandpage.syntax import Branching, Looping, Naming, Super
 from listandpage.walking import Some, Walk
 
 
 class CheckFitter(Fitter):
-    """Goes through the text of a check, in which each test is true or false."""
+    """Goes through the text of a check, in which each test is true or false.
 
-    def __init__(self, schema, uses):
+    following: the body of the check that `super()` asks, None outside of families.
+    """
+
+    def __init__(self, schema, uses, following):
         Fitter.__init__(self, schema, uses)
+        self.following = following
         # Of the outermost `for` around: what its returns give, None ahead of the first one.
         self.given = None
         self.returns = 0
@@ -48,8 +53,15 @@ class CheckFitter(Fitter):
         return Opposite(meant) if node.denied else meant
 
     def fit_super(self, node, scope):
-        """What the check of the next kind means: outside of families there is none."""
-        self.require(False, node.word)
+        """What the check of the next kind means; it may be asked once, and not within a walk."""
+        body = self.following
+        self.require(body is not None and not scope.around, node.word)
+        self.following = None
+        self.nest(body.walked, scope, node.word)
+        self.weigh(1 + body.once, scope)
+        self.twice += body.twice
+        self.notes.extend(body.notes)
+        return body.root
 
     def fit_looped(self, test, scope):
         """What `in` with square brackets means."""
@@ -121,3 +133,9 @@ class CheckFitter(Fitter):
         block = self.fit_block(statement.block, scope.inside(statement.name.text, head.table))
         truth = self.given if self.returns > before else None
         return For(statement.word.line, Walk(head.path, head.link, Returning(block)), truth)
+
+
+def check_body(schema, table, program, uses, following):
+    """The body of a check that was read."""
+    fitter = CheckFitter(schema, uses, following)
+    return fitter.made_body(fitter.fit_program(program, first_scope(table, schema.user)))

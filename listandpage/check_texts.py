@@ -1,8 +1,8 @@
 """Reading the texts of checks, line by line."""
 
-from listandpage.reading import Reader
+from listandpage.reading import ReadLine, Reader
 from listandpage.syntax import Asked, Branching, Giving, Looped, Looping, Naming, Super, Walked
-from listandpage.tokens import Fault, read_tokens, spell
+from listandpage.tokens import Fault, read_tokens
 
 MOST_LINES = 20
 STEP = 4
@@ -87,14 +87,13 @@ class LineReader(Reader):
 
 
 class CheckText:
-    """The text of a check: its statements, its tests, and how it is spelled."""
+    """The text of a check: its statements, and its lines."""
 
     def __init__(self, text):
         if not isinstance(text, str):
             raise Fault(-1, -1)
         self.program = []
-        self.tests_spelled = []
-        self._lines = []
+        self.lines_read = []
         # The blocks that a line may go on, outermost first; at_block tells that the innermost must begin.
         self._blocks = [self.program]
         self._at_block = True
@@ -103,7 +102,6 @@ class CheckText:
             self._read_line(number, line)
         if self._at_block:
             raise Fault(len(lines), 0)
-        self.spelled = "\n".join(self._lines)
 
     def _read_line(self, number, line):
         """Read a line and put its statement into its block."""
@@ -119,8 +117,7 @@ class CheckText:
         else:
             self._read_statement(reader, self._blocks[depth])
         reader.skip("")
-        self.tests_spelled.extend(reader.tests_read)
-        self._lines.append(" " * width + spell(reader.tokens[:-1]))
+        self.lines_read.append(ReadLine(width, reader))
 
     def _may_stand(self, width):
         """Whether a line with so many spaces in front may stand here."""

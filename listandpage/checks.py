@@ -1,10 +1,9 @@
 """Checks: rights that are written as programs, as the page of a thing is opened."""
 
-from listandpage.check_fitting import CheckFitter
+from listandpage.check_fitting import check_body
 from listandpage.check_texts import CheckText
 from listandpage.errors import BadCheck, NoName
 from listandpage.rights import Right
-from listandpage.scopes import first_scope
 from listandpage.tokens import Fault
 
 
@@ -14,18 +13,18 @@ class Check(Right):
     def __init__(self, schema, table, text, *, uses=None):
         if table not in schema:
             raise NoName(table)
-        fitter = CheckFitter(schema, {} if uses is None else uses)
+        self.uses = {} if uses is None else dict(uses)
         try:
-            self._read = CheckText(text)
-            root = fitter.fit_program(self._read.program, first_scope(table, schema.user))
+            self.source = CheckText(text)
+            body = check_body(schema, table, self.source.program, self.uses, None)
         except Fault as fault:
             raise BadCheck(fault.line, fault.at) from None
-        Right.__init__(self, schema, table, fitter.made_body(root))
+        Right.__init__(self, schema, table, body)
         self.text = text
 
     def tests(self):
         """The tests, as they are spelled."""
-        return list(self._read.tests_spelled)
+        return [test for line in self.source.lines_read for test in line.tests_spelled()]
 
     def __str__(self):
-        return str(self._read.spelled)
+        return "\n".join([line.spelled() for line in self.source.lines_read])

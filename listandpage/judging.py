@@ -4,7 +4,7 @@ from listandpage.deciding import need_small
 from listandpage.pairs import Pair
 from listandpage.planning import Planner
 from listandpage.rights import nothing
-from listandpage.showing import Shower, show_store
+from listandpage.showing import Shower, place_rows, show_store
 
 
 class Verdict:
@@ -24,7 +24,8 @@ class Verdict:
         if self._facts is None:
             return ("alike", self._tree)
         store = show_store(self._schema, self._facts)
-        thing, user = [place_of(self._facts, row) for row in self._facts.start]
+        places = place_rows(self._facts)
+        thing, user = [places[row] for row in self._facts.start]
         return ("part", store, thing, user, self._tree)
 
     def __len__(self):
@@ -32,11 +33,6 @@ class Verdict:
 
     def __bool__(self):
         return self._facts is None
-
-
-def place_of(facts, row):
-    """The index of a named row in its table."""
-    return len([table for table in facts.named[:row] if table == facts.named[row]])
 
 
 def judge(one, two):

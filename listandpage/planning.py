@@ -1,4 +1,4 @@
-"""Planning: which facts to ask, one behind the other, until it is settled that two rights are alike or that they part."""
+"""Planning: which facts to ask one behind the other, until it is settled that two rights are alike or part."""
 
 from listandpage.branches import branches
 from listandpage.columns import is_link, may_lack

@@ -1,8 +1,8 @@
 """Reading the texts of questions."""
 
-from listandpage.reading import Reader
+from listandpage.reading import ReadLine, Reader
 from listandpage.syntax import Asked, Walked
-from listandpage.tokens import Fault, read_tokens, spell
+from listandpage.tokens import Fault, read_tokens
 
 
 class QuestionReader(Reader):
@@ -33,7 +33,7 @@ class QuestionReader(Reader):
 
 
 class QuestionText:
-    """The text of a question: what it was read into, its tests, and how it is spelled."""
+    """The text of a question: what it was read into, and its line."""
 
     def __init__(self, text):
         if not isinstance(text, str):
@@ -41,5 +41,4 @@ class QuestionText:
         reader = QuestionReader(read_tokens(text, 0))
         self.root = reader.read_joined()
         reader.skip("")
-        self.tests_spelled = reader.tests_read
-        self.spelled = spell(reader.tokens[:-1])
+        self.lines_read = [ReadLine(0, reader)]

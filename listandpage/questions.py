@@ -15,10 +15,11 @@ class Question(Right):
     def __init__(self, schema, table, text, *, uses=None):
         if table not in schema:
             raise NoName(table)
-        fitter = QuestionFitter(schema, {} if uses is None else uses)
+        self.uses = {} if uses is None else dict(uses)
+        fitter = QuestionFitter(schema, self.uses)
         try:
-            self._read = QuestionText(text)
-            root = fitter.fit(self._read.root, first_scope(table, schema.user))
+            self.source = QuestionText(text)
+            root = fitter.fit(self.source.root, first_scope(table, schema.user))
         except Fault as fault:
             raise BadQuestion(fault.at) from None
         Right.__init__(self, schema, table, fitter.made_body(root))
@@ -34,7 +35,7 @@ class Question(Right):
 
     def tests(self):
         """The tests, as they are spelled."""
-        return list(self._read.tests_spelled)
+        return [test for line in self.source.lines_read for test in line.tests_spelled()]
 
     def __str__(self):
-        return str(self._read.spelled)
+        return "\n".join([line.spelled() for line in self.source.lines_read])

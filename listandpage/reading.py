@@ -6,6 +6,32 @@ from listandpage.tokens import Fault, is_digits, is_name_token, is_number_token,
 ORDERS = ("<", "<=", ">", ">=")
 
 
+class TestPlace:
+    """A test that was read from the tokens of a line, and where it begins and ends among these."""
+
+    def __init__(self, begin, end, test):
+        self.begin = begin
+        self.end = end
+        self.test = test
+
+
+class ReadLine:
+    """A line that was read: its indentation, its tokens and its tests."""
+
+    def __init__(self, width, reader):
+        self.width = width
+        self.tokens = reader.tokens[:-1]
+        self.places = list(reader.tests_read)
+
+    def spelled(self):
+        """The line with one space between two tokens."""
+        return " " * self.width + spell(self.tokens)
+
+    def tests_spelled(self):
+        """The tests, as they are spelled."""
+        return [spell(self.tokens[place.begin:place.end]) for place in self.places]
+
+
 class Reader:
     """Reads tokens from left to right; the first one that is not allowed is the fault.
 
@@ -101,10 +127,10 @@ class Reader:
         return Used(name, trail)
 
     def read_test(self):
-        """A test; its spelling is kept."""
+        """A test; its place is kept."""
         begin = self.place
         test = self.read_sign(self.read_path())
-        self.tests_read.append(spell(self.tokens[begin:self.place]))
+        self.tests_read.append(TestPlace(begin, self.place, test))
         return test
 
     def read_sign(self, left):

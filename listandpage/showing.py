@@ -18,7 +18,7 @@ class Met:
 
 
 class Shower:
-    """Shows plans as trees of cases. A tree has an answer for each word and number, also where the plan has one for many."""
+    """Shows plans as trees of cases, which have an answer for each word and number where plans have one for many."""
 
     def __init__(self, planner):
         self.frame = planner.frame
