@@ -33,7 +33,9 @@ def _worded(frame, facts, step, row, column):
     """The words that can stand in a cell."""
     cell = (step.table, step.column)
     group = frame.group(cell)
-    found = [(None, facts.with_cell(row, step.place, None))] if may_lack(column) else []
+    found = []
+    if may_lack(column):
+        found.append((None, facts.with_cell(row, step.place, None)))
     for word in frame.words_for(cell, facts.used.get(group, {})):
         known = facts.with_cell(row, step.place, word)
         found.append((word, known if group is None else known.with_word(group, word)))
