@@ -3,10 +3,15 @@
 import inspect
 import unittest
 
-from listandpage import rights
+from listandpage import cases, judging, mends, parts, rights, runs
+from listandpage.books import Book
 from listandpage.checks import Check
+from listandpage.families import Family
+from listandpage.judging import Verdict
+from listandpage.mends import Mending
 from listandpage.questions import Question
 from listandpage.rights import Listing, Right, all_of, any_of, everything, nothing
+from listandpage.runs import Run
 from listandpage.schemas import Schema
 from listandpage.stores import Store
 from tests.samples import EXAMPLE, EXAMPLE_TABLES, example, example_rows
@@ -44,18 +49,47 @@ RIGHT_METHODS = {
 }
 SPELLED_METHODS = {"__init__": ["self", "schema", "table", "text", "uses"], "tests": ["self"], "__str__": ["self"]}
 QUESTION_METHODS = {**SPELLED_METHODS, "value": ["self", "store", "thing", "user"]}
+BOOK_METHODS = {
+    "__init__": ["self", "schema"],
+    "names": ["self"],
+    "question": ["self", "name", "table", "text"],
+    "check": ["self", "name", "table", "text"],
+    "needless": ["self", "names"],
+    "covers": ["self", "names"],
+}
+FAMILY_METHODS = {
+    "__init__": ["self", "schema", "table", "uses"],
+    "add": ["self", "name", "bases", "text"],
+    "kinds": ["self"],
+    "order": ["self", "name"],
+    "right": ["self", "name"],
+    "dispatch": ["self", "column"],
+    "wider": ["self"],
+}
 FUNCTIONS = {
-    "any_of": ["first", "rest"],
-    "all_of": ["first", "rest"],
-    "nothing": ["schema", "table"],
-    "everything": ["schema", "table"],
+    rights: {
+        "any_of": ["first", "rest"],
+        "all_of": ["first", "rest"],
+        "nothing": ["schema", "table"],
+        "everything": ["schema", "table"],
+    },
+    runs: {
+        "what_if": ["store", "changes", "right", "thing", "user"],
+        "steps": ["check", "store", "thing", "user"],
+        "run": ["check", "store", "thing", "user"],
+    },
+    parts: {"kept_part": ["one", "two", "store", "thing", "user"], "bounds": ["one", "two"]},
+    cases: {"is_tree": ["one", "two", "thing", "least"], "is_certificate": ["one", "two", "thing"]},
+    judging: {"parts_by_lacking": ["one", "two"], "never": ["right"], "judge": ["one", "two"]},
+    mends: {"mended": ["right", "mends"], "least_mends": ["one", "two", "pool"]},
 }
 
 
 class InterfaceTest(unittest.TestCase):
     def test_methods_are_defined_in_the_class_itself(self):
         for made, methods in ((Schema, SCHEMA_METHODS), (Store, STORE_METHODS), (Right, RIGHT_METHODS),
-                              (Question, QUESTION_METHODS), (Check, SPELLED_METHODS)):
+                              (Question, QUESTION_METHODS), (Check, SPELLED_METHODS), (Book, BOOK_METHODS),
+                              (Family, FAMILY_METHODS), (Verdict, {"certificate": ["self"]})):
             for name, parameters in methods.items():
                 self.assertIn(name, vars(made))
                 self.assertEqual(list(inspect.signature(getattr(made, name)).parameters), parameters)
@@ -65,6 +99,13 @@ class InterfaceTest(unittest.TestCase):
             self.assertIn(name, vars(Store))
         for name in ("__len__", "__contains__", "__iter__"):
             self.assertIn(name, vars(Listing))
+        for name in ("__len__", "__contains__", "__iter__", "__getitem__", "__setitem__"):
+            self.assertIn(name, vars(Book))
+        for name in ("__len__", "__bool__"):
+            self.assertIn(name, vars(Verdict))
+        self.assertIn("__bool__", vars(Mending))
+        self.assertIs(type(vars(Book)["of"]), classmethod)
+        self.assertEqual(list(inspect.signature(Book.of).parameters), ["schema", "rights"])
         self.assertIs(type(vars(Schema)["read"]), classmethod)
         self.assertIs(type(vars(Schema)["is_name"]), staticmethod)
 
@@ -76,12 +117,21 @@ class InterfaceTest(unittest.TestCase):
         self.assertEqual(Question.__module__, "listandpage.questions")
         self.assertEqual(Check.__module__, "listandpage.checks")
         self.assertTrue(issubclass(Question, Right) and issubclass(Check, Right))
+        self.assertEqual(Run.__module__, "listandpage.runs")
+        self.assertEqual(Verdict.__module__, "listandpage.judging")
+        self.assertEqual(Mending.__module__, "listandpage.mends")
+        self.assertEqual(Book.__module__, "listandpage.books")
+        self.assertEqual(Family.__module__, "listandpage.families")
 
     def test_functions(self):
-        for name, parameters in FUNCTIONS.items():
-            function = getattr(rights, name)
-            self.assertEqual(function.__module__, "listandpage.rights")
-            self.assertEqual(list(inspect.signature(function).parameters), parameters)
+        for module, functions in FUNCTIONS.items():
+            for name, parameters in functions.items():
+                function = getattr(module, name)
+                self.assertEqual(function.__module__, module.__name__)
+                self.assertEqual(list(inspect.signature(function).parameters), parameters)
+        least = inspect.signature(cases.is_tree).parameters["least"]
+        self.assertEqual((least.kind, least.default), (inspect.Parameter.KEYWORD_ONLY, 0))
+        self.assertTrue(inspect.isgeneratorfunction(runs.steps))
 
     def test_uses_are_passed_by_name_only(self):
         for made, text in ((Question, "true"), (Check, "return True")):
@@ -101,6 +151,14 @@ class InterfaceTest(unittest.TestCase):
         store = Store(example(), example_rows())
         self.assertIn("things", vars(made(store, 0)))
         self.assertEqual(vars(Right)["MOST"], 100)
+        done = runs.run(Check(example(), "doc", "return True"), store, 0, 0)
+        self.assertLessEqual({"opens", "line", "lines", "around"}, set(vars(done)))
+        self.assertIn("way", vars(judging.judge(made, made)))
+        self.assertLessEqual({"least", "lesser"}, set(vars(mends.least_mends(made, made, []))))
+        parameters = inspect.signature(Family).parameters
+        self.assertIs(parameters["uses"].kind, inspect.Parameter.KEYWORD_ONLY)
+        parameters = inspect.signature(Family.add).parameters
+        self.assertEqual((parameters["bases"].default, parameters["text"].default), ((), None))
 
     def test_rights_by_name(self):
         schema = example()
