@@ -4,7 +4,7 @@ from listandpage.blocks import Block, For, If, Named, Program, Return, Returning
 from listandpage.claims import Certain, Opposite, SameTest
 from listandpage.fitting import Fitter
 from listandpage.scopes import first_scope
-from listandpage.syntax import Branching, Looping, Naming, Super
+from listandpage.syntax import Branching, Looping, Naming
 from listandpage.walking import Some, Walk
 
 
@@ -32,7 +32,7 @@ class CheckFitter(Fitter):
     def fit_walk(self, node, scope):
         """What `any` or `all` means."""
         head = self.fit_head(node, scope, node.word)
-        self.weigh(len(node.head.tokens) - 1, scope)
+        self.weigh(len(node.head.dotted) - 1, scope)
         inner = self.fit(node.inner, scope.inside(node.name.text, head.table))
         if node.word.text == "any":
             return Some(Walk(head.path, head.link, inner))
@@ -45,13 +45,6 @@ class CheckFitter(Fitter):
         self.need_list(head, scope, token)
         return head
 
-    def fit_other(self, node, scope):
-        """What a test means."""
-        if isinstance(node, Super):
-            return self.fit_super(node, scope)
-        meant = self.fit_looped(node, scope) if node.form == "looped" else self.sealed(self.fit_test(node, scope))
-        return Opposite(meant) if node.denied else meant
-
     def fit_super(self, node, scope):
         """What the check of the next kind means; it may be asked once, and not within a walk."""
         body = self.following
@@ -63,16 +56,16 @@ class CheckFitter(Fitter):
         self.notes.extend(body.notes)
         return body.root
 
-    def fit_looped(self, test, scope):
+    def fit_listed(self, test, scope):
         """What `in` with square brackets means."""
         looped = test.other
         left = self.route_of(test.left, scope)
-        head = self.fit_head(looped, scope, test.first)
+        head = self.fit_head(looped, scope, test.left)
         end = self.route_of(looped.end, scope.inside(looped.name.text, head.table))
-        begins = looped.end.tokens[0].text == looped.name.text
+        begins = looped.end.dotted[0] == looped.name.text
         fits = begins and left.link is None and end.link is None and left.meets(end)
-        self.require(fits, test.first)
-        names = len(test.left.tokens) + len(looped.head.tokens) + len(looped.end.tokens) - 3
+        self.require(fits, test.left)
+        names = len(test.left.dotted) + len(looped.head.dotted) + len(looped.end.dotted) - 3
         self.twice += names + 1
         self.note_alike(left, end)
         return Some(Walk(head.path, head.link, SameTest(left.path, end.path)))
@@ -99,7 +92,7 @@ class CheckFitter(Fitter):
         self.take_name(name)
         route = self.route_of(statement.trail, scope)
         self.require(route.is_plain("row"), name)
-        self.weigh(len(statement.trail.tokens) - 1, scope)
+        self.weigh(len(statement.trail.dotted) - 1, scope)
         return route
 
     def fit_statement(self, statement, scope):
@@ -118,7 +111,7 @@ class CheckFitter(Fitter):
     def fit_return(self, statement):
         """Check whether a `return` may stand within a `for`."""
         self.require(statement.bare, statement.word)
-        truth = statement.test.parts[0].parts[0].truth
+        truth = statement.test.truth
         self.require(self.given in (None, truth), statement.word)
         self.given = truth
         self.returns += 1
@@ -129,7 +122,7 @@ class CheckFitter(Fitter):
             self.given = None
         before = self.returns
         head = self.fit_head(statement, scope, statement.word)
-        self.weigh(len(statement.head.tokens) - 1, scope)
+        self.weigh(len(statement.head.dotted) - 1, scope)
         block = self.fit_block(statement.block, scope.inside(statement.name.text, head.table))
         truth = self.given if self.returns > before else None
         return For(statement.word.line, Walk(head.path, head.link, Returning(block)), truth)

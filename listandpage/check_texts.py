@@ -1,8 +1,8 @@
 """Reading the texts of checks, line by line."""
 
 from listandpage.reading import ReadLine, Reader
-from listandpage.syntax import Asked, Branching, Giving, Looped, Looping, Naming, Super, Walked
-from listandpage.tokens import Fault, read_tokens
+from listandpage.syntax import Asked, Branching, Giving, Looped, Looping, Naming, Super, Truth, Walked
+from listandpage.tokens import END, Fault, Token, find_place, read_tokens
 
 MOST_LINES = 20
 STEP = 4
@@ -14,21 +14,15 @@ class LineReader(Reader):
     EQUAL = "=="
     TRUE = "True"
     FALSE = "False"
-    WALKS = ("any", "all")
-
-    def read_atom(self):
-        """An atom."""
-        if self.ahead() != "super":
-            return super().read_atom()
-        word = self.step()
-        self.skip("(")
-        self.skip(")")
-        return Super(word)
+    WALKS = ("any", "all", "super")
 
     def read_walk(self):
-        """`any` or `all` with its brackets."""
+        """`any` or `all` with its brackets, or `super()`."""
         word = self.step()
         self.skip("(")
+        if word.text == "super":
+            self.skip(")")
+            return Super(word)
         inner = self.read_joined()
         name, head = self.read_head()
         self.skip(")")
@@ -67,10 +61,10 @@ class LineReader(Reader):
             self.skip(":")
             return Branching(word.line, test)
         if self.ahead() == "for":
-            word = self.tokens[self.place]
+            begin = self.place
             name, head = self.read_head()
             self.skip(":")
-            return Looping(word, name, head)
+            return Looping(Token("for", self.number, begin), name, head)
         if self.ahead() == "return":
             return self.read_return()
         name = self.read_name()
@@ -82,67 +76,76 @@ class LineReader(Reader):
         word = self.step()
         begin = self.place
         test = self.read_joined()
-        alone = self.place == begin + 1 and self.tokens[begin].text in (self.TRUE, self.FALSE)
-        return Giving(word, test, alone)
+        return Giving(word, test, isinstance(test, Truth) and self.place == begin + 1)
 
 
 class CheckText:
-    """The text of a check: its statements, and its lines."""
+    """The text of a check, a string."""
 
     def __init__(self, text):
-        if not isinstance(text, str):
-            raise Fault(-1, -1)
-        self.program = []
+        self.lines = text.split("\n")
         self.lines_read = []
+        self.known = {}
         # The blocks that a line may go on, outermost first; at_block tells that the innermost must begin.
-        self._blocks = [self.program]
-        self._at_block = True
-        lines = text.split("\n")
-        for number, line in enumerate(lines):
-            self._read_line(number, line)
-        if self._at_block:
-            raise Fault(len(lines), 0)
+        self.blocks = [[]]
+        self.at_block = True
 
-    def _read_line(self, number, line):
+    def read_whole(self):
+        """The statements of the check; Fault if it is none."""
+        for number, line in enumerate(self.lines):
+            self.read_line(number, line)
+        if self.at_block:
+            raise Fault(len(self.lines), -1)
+        return self.blocks[0]
+
+    def position(self, fault):
+        """The position of a fault in its line."""
+        if fault.place < 0:
+            return 0
+        line = self.lines_read[fault.line]
+        return find_place(line.text, line.tokens, fault.place)
+
+    def read_line(self, number, text):
         """Read a line and put its statement into its block."""
-        width = len(line) - len(line.lstrip(" "))
-        if number == MOST_LINES or not self._may_stand(width):
-            raise Fault(number, 0)
+        width = len(text) - len(text.lstrip(" "))
+        if number == MOST_LINES or not self.may_stand(width):
+            raise Fault(number, -1)
         depth = width // STEP
-        del self._blocks[depth + 1:]
-        self._at_block = False
-        reader = LineReader(read_tokens(line, number))
+        del self.blocks[depth + 1:]
+        self.at_block = False
+        line = ReadLine(number, text, width, read_tokens(text, self.known))
+        self.lines_read.append(line)
+        reader = LineReader(line)
         if reader.ahead() == "else":
-            self._read_else(reader, self._blocks[depth])
+            self.read_else(reader, self.blocks[depth])
         else:
-            self._read_statement(reader, self._blocks[depth])
-        reader.skip("")
-        self.lines_read.append(ReadLine(width, reader))
+            self.add_statement(reader, self.blocks[depth])
+        reader.skip(END)
 
-    def _may_stand(self, width):
+    def may_stand(self, width):
         """Whether a line with so many spaces in front may stand here."""
-        deepest = len(self._blocks) - 1
-        if self._at_block:
+        deepest = len(self.blocks) - 1
+        if self.at_block:
             return width == STEP * deepest
         return width <= STEP * deepest and width % STEP == 0
 
-    def _read_else(self, reader, block):
+    def read_else(self, reader, block):
         """Read an `else`, which needs an `if` without one as the last statement of its block."""
         last = block[-1] if block else None
         reader.need(isinstance(last, Branching) and last.otherwise is None)
         reader.skip("else")
         reader.skip(":")
         last.otherwise = []
-        self._begin(last.otherwise)
+        self.begin(last.otherwise)
 
-    def _read_statement(self, reader, block):
+    def add_statement(self, reader, block):
         """Read any other statement."""
         statement = reader.read_statement()
         block.append(statement)
         if isinstance(statement, (Branching, Looping)):
-            self._begin(statement.block)
+            self.begin(statement.block)
 
-    def _begin(self, block):
+    def begin(self, block):
         """Let a block begin with the next line."""
-        self._blocks.append(block)
-        self._at_block = True
+        self.blocks.append(block)
+        self.at_block = True

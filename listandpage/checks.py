@@ -13,12 +13,14 @@ class Check(Right):
     def __init__(self, schema, table, text, *, uses=None):
         if table not in schema:
             raise NoName(table)
+        if not isinstance(text, str):
+            raise BadCheck(-1, -1)
         self.uses = {} if uses is None else dict(uses)
+        self.source = CheckText(text)
         try:
-            self.source = CheckText(text)
-            body = check_body(schema, table, self.source.program, self.uses, None)
+            body = check_body(schema, table, self.source.read_whole(), self.uses, None)
         except Fault as fault:
-            raise BadCheck(fault.line, fault.at) from None
+            raise BadCheck(fault.line, self.source.position(fault)) from None
         Right.__init__(self, schema, table, body)
         self.text = text
 

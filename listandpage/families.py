@@ -14,12 +14,12 @@ from listandpage.tokens import Fault
 
 
 class Kind:
-    """A kind: its bases, its order, what was read of its check, None without one, and its right."""
+    """A kind: its bases, its order, the statements of its check, None without one, and its right."""
 
-    def __init__(self, bases, order, source, right):
+    def __init__(self, bases, order, program, right):
         self.bases = bases
         self.lineage = order
-        self.source = source
+        self.program = program
         self.granted = right
 
 
@@ -43,28 +43,37 @@ class Family:
         order = find_order(name, [self._kinds[base].lineage for base in bases] + [tuple(bases)])
         if order is None:
             raise BadKind(name)
+        self._kinds[name] = self._kind_of(tuple(bases), order, text)
+
+    def _kind_of(self, bases, order, text):
+        """A new kind with these bases, this order, and a text, any value."""
+        if text is None:
+            return Kind(bases, order, None, self._right_of(None, order))
+        if not isinstance(text, str):
+            raise BadCheck(-1, -1)
+        source = CheckText(text)
         try:
-            source = None if text is None else CheckText(text)
-            right = self._right_of(source, order)
+            program = source.read_whole()
+            right = self._right_of(program, order)
         except Fault as fault:
-            raise BadCheck(fault.line, fault.at) from None
-        self._kinds[name] = Kind(tuple(bases), order, source, right)
+            raise BadCheck(fault.line, source.position(fault)) from None
+        return Kind(bases, order, program, right)
 
     def _need_kind(self, name):
         """Raise NoName unless any value is a kind."""
         if not isinstance(name, str) or name not in self._kinds:
             raise NoName(name)
 
-    def _right_of(self, source, order):
+    def _right_of(self, program, order):
         """The right of a new kind with this check, or none, and this order."""
-        sources = [source] + [self._kinds[kind].source for kind in order[1:]]
-        checks = [each for each in sources if each is not None]
+        programs = [program] + [self._kinds[kind].program for kind in order[1:]]
+        checks = [each for each in programs if each is not None]
         if not checks:
             return nothing(self.schema, self.table)
         # Behind the last check nothing is admitted, and nothing weighs.
         body = Body(Constant(False), [], 0, 0, [])
         for each in checks[::-1]:
-            body = check_body(self.schema, self.table, each.program, self.uses, body)
+            body = check_body(self.schema, self.table, each, self.uses, body)
         return Made(self.schema, self.table, body)
 
     def kinds(self):

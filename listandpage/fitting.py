@@ -5,20 +5,26 @@ from listandpage.bodies import Body
 from listandpage.claims import Constant, FlagTest, Join, LackTest, NumberTest, Opposite, Use, WordTest
 from listandpage.paths import Move
 from listandpage.routes import find_route
-from listandpage.syntax import Denied, Joined, Truth, Used, Walked
+from listandpage.syntax import Asked, Denied, Joined, Truth, Used, Walked
 from listandpage.tokens import Fault
+
+
+# The forms of tests that walk.
+LISTS = ("list", "looped")
 
 
 class Fitter:
     """Goes through a text from left to right; the first thing that does not fit is the fault.
 
-    The classes below tell by sealed, equal, fit_walk and fit_other what differs in the two languages.
+    The classes below tell by sealed, equal, fit_walk and fit_listed what differs in the two
+    languages, and that for checks by fit_super what only these have.
     """
 
     def __init__(self, schema, uses):
         self.schema = schema
         self.uses = uses
         self.taken = {}
+        self.routes = {}
         self.walked = []
         self.once = 0
         self.twice = 0
@@ -28,10 +34,10 @@ class Fitter:
         """The body of the text, which means what root asks."""
         return Body(root, self.walked, self.once, self.twice, self.notes)
 
-    def require(self, fits, token):
-        """Raise Fault at a token unless all fits."""
+    def require(self, fits, written):
+        """Raise Fault at a token or a path unless all fits."""
         if not fits:
-            raise Fault(token.line, token.at)
+            raise Fault(written.line, written.place)
 
     def weigh(self, many, scope):
         """Count so much, which stands at a place of the text."""
@@ -47,10 +53,13 @@ class Fitter:
 
     def route_of(self, trail, scope):
         """Where a path leads; its names are checked."""
-        first = trail.tokens[0]
-        self.require(first.text in scope.visible, first)
-        path, table = scope.visible[first.text]
-        return find_route(self.schema, trail.tokens, path, table)
+        names = trail.dotted
+        self.require(names[0] in scope.visible, trail)
+        # A name means the same wherever it is visible in a text.
+        if names not in self.routes:
+            path, table = scope.visible[names[0]]
+            self.routes[names] = find_route(self.schema, trail, path, table)
+        return self.routes[names]
 
     def nest(self, tables, scope, token):
         """Add walks over these tables, which must be later than those of the walks around."""
@@ -63,19 +72,21 @@ class Fitter:
 
     def fit(self, node, scope):
         """What a question or a test, or a part of one, means."""
-        if isinstance(node, Joined):
-            parts = [self.fit(part, scope) for part in node.parts]
-            return parts[0] if len(parts) == 1 else Join(parts, node.word == "and")
-        if isinstance(node, Denied):
-            return Opposite(self.fit(node.inner, scope))
+        if isinstance(node, Asked):
+            meant = self.fit_listed(node, scope) if node.form in LISTS else self.sealed(self.fit_test(node, scope))
+            return Opposite(meant) if node.denied else meant
         if isinstance(node, Truth):
             self.weigh(1, scope)
             return Constant(node.truth)
+        if isinstance(node, Joined):
+            return Join([self.fit(part, scope) for part in node.parts], node.word == "and")
+        if isinstance(node, Denied):
+            return Opposite(self.fit(node.inner, scope))
         if isinstance(node, Used):
             return self.sealed(self.fit_use(node, scope))
         if isinstance(node, Walked):
             return self.fit_walk(node, scope)
-        return self.fit_other(node, scope)
+        return self.fit_super(node, scope)
 
     def fit_use(self, node, scope):
         """What the use of a right means."""
@@ -86,7 +97,7 @@ class Fitter:
         self.require(used.schema == self.schema and route.is_plain("row") and route.table == used.table, name)
         body = used.body
         self.nest(body.walked, scope, name)
-        self.weigh(len(node.trail.tokens) + body.once, scope)
+        self.weigh(len(node.trail.dotted) + body.once, scope)
         self.twice += body.twice
         self.notes.extend(body.notes)
         return Use(route.path, body.root.moved(Move(route.path, len(scope.around))))
@@ -95,12 +106,12 @@ class Fitter:
         """What a test means that has no list."""
         left = self.route_of(test.left, scope)
         other = self.route_of(test.other, scope) if test.form == "paths" else None
-        self.require(left.link is None and _fits(test.form, left, other), test.first)
-        self.weigh(len(test.left.tokens), scope)
+        self.require(left.link is None and _fits(test.form, left, other), test.left)
+        self.weigh(len(test.left.dotted), scope)
         self.note(test, left)
         if other is None:
             return _lone_test(test, left.path)
-        self.weigh(len(test.other.tokens) - 1, scope)
+        self.weigh(len(test.other.dotted) - 1, scope)
         self.note_alike(left, other)
         return self.equal(left.path, other.path)
 
@@ -114,7 +125,7 @@ class Fitter:
         if test.form == "number":
             self.notes.append(("number", left.spot, (test.sign, test.other)))
         if test.form == "words":
-            self.notes.append(("words", left.spot, tuple(test.other)))
+            self.notes.append(("words", left.spot, test.other))
 
     def note_alike(self, left, other):
         """Note that two paths are compared, if they end in words."""

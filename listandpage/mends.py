@@ -31,7 +31,7 @@ def mended(right, mends):
     count = 0
     for line in right.source.lines_read:
         lines.append(mended_line(line, count, known, isinstance(right, Question)))
-        count += len(line.places)
+        count += len(line.tests_read)
     text = "\n".join(lines)
     if isinstance(right, Question):
         return Question(right.schema, right.table, text, uses=right.uses)
@@ -42,14 +42,14 @@ def mended_line(line, before, mends, asking):
     """A line of a question, if it is asking, or of a check with its mends; so many tests stand before it."""
     pieces = []
     behind = 0
-    for index, place in enumerate(line.places, start=before):
-        text = spell(line.tokens[place.begin:place.end])
+    for index, test in enumerate(line.tests_read, start=before):
+        text = line.test_spelled(test)
         if ("turn", index) in mends:
             text = f"( not ( {text} ) )"
         if ("guard", index) in mends:
-            text = guarded(text, place.test, asking)
-        pieces.extend([spell(line.tokens[behind:place.begin]), text])
-        behind = place.end
+            text = guarded(text, test, asking)
+        pieces.extend([spell(line.tokens[behind:test.left.place]), text])
+        behind = test.end
     pieces.append(spell(line.tokens[behind:]))
     return " " * line.width + " ".join([piece for piece in pieces if piece])
 
@@ -59,7 +59,7 @@ def guarded(text, test, asking):
     trails = [test.left, test.other] if test.form == "paths" else [test.left]
     guards = []
     for trail in trails:
-        path = ".".join([token.text for token in trail.tokens])
+        path = ".".join(trail.dotted)
         guards.append(f"not {path} lacks" if asking else f"{path} is not None")
     return f"( {text} and " + " and ".join(guards) + " )"
 

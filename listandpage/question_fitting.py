@@ -21,23 +21,18 @@ class QuestionFitter(Fitter):
         head = self.route_of(node.head, scope)
         self.take_name(node.name)
         self.need_list(head, scope, node.word)
-        self.weigh(len(node.head.tokens) - 1, scope)
+        self.weigh(len(node.head.dotted) - 1, scope)
         inner = self.fit(node.inner, scope.inside(node.name.text, head.table))
         some = Some(Walk(head.path, head.link, inner))
         return some if node.word.text == "some" else Opposite(some)
 
-    def fit_other(self, node, scope):
-        """What a test means."""
-        meant = self.fit_within(node, scope) if node.form == "list" else self.fit_test(node, scope)
-        return Opposite(meant) if node.denied else meant
-
-    def fit_within(self, test, scope):
+    def fit_listed(self, test, scope):
         """What `in` with a list means: two walks, which count as one test."""
         left = self.route_of(test.left, scope)
         other = self.route_of(test.other, scope)
-        self.require(left.link is None and other.link is not None and left.meets(other), test.first)
-        self.nest([other.link.table, other.link.table], scope, test.first)
-        self.twice += len(test.left.tokens) + len(test.other.tokens) - 1
+        self.require(left.link is None and other.link is not None and left.meets(other), test.left)
+        self.nest([other.link.table, other.link.table], scope, test.left)
+        self.twice += len(test.left.dotted) + len(test.other.dotted) - 1
         self.note_alike(left, other)
         equal = EqualTest(left.path, scope.row_path().beyond(other.behind))
         not_false = Opposite(Certain(Opposite(equal)))

@@ -2,7 +2,7 @@
 
 from listandpage.reading import ReadLine, Reader
 from listandpage.syntax import Asked, Walked
-from listandpage.tokens import Fault, read_tokens
+from listandpage.tokens import END, find_place, read_tokens
 
 
 class QuestionReader(Reader):
@@ -33,12 +33,19 @@ class QuestionReader(Reader):
 
 
 class QuestionText:
-    """The text of a question: what it was read into, and its line."""
+    """The text of a question, a string."""
 
     def __init__(self, text):
-        if not isinstance(text, str):
-            raise Fault(0, -1)
-        reader = QuestionReader(read_tokens(text, 0))
-        self.root = reader.read_joined()
-        reader.skip("")
-        self.lines_read = [ReadLine(0, reader)]
+        self.lines_read = [ReadLine(0, text, 0, read_tokens(text, {}))]
+
+    def read_whole(self):
+        """What it is read into; Fault if it is no question."""
+        reader = QuestionReader(self.lines_read[0])
+        root = reader.read_joined()
+        reader.skip(END)
+        return root
+
+    def position(self, fault):
+        """The position of a fault."""
+        line = self.lines_read[0]
+        return find_place(line.text, line.tokens, fault.place)

@@ -15,13 +15,15 @@ class Question(Right):
     def __init__(self, schema, table, text, *, uses=None):
         if table not in schema:
             raise NoName(table)
+        if not isinstance(text, str):
+            raise BadQuestion(-1)
         self.uses = {} if uses is None else dict(uses)
+        self.source = QuestionText(text)
         fitter = QuestionFitter(schema, self.uses)
         try:
-            self.source = QuestionText(text)
-            root = fitter.fit(self.source.root, first_scope(table, schema.user))
+            root = fitter.fit(self.source.read_whole(), first_scope(table, schema.user))
         except Fault as fault:
-            raise BadQuestion(fault.at) from None
+            raise BadQuestion(self.source.position(fault)) from None
         Right.__init__(self, schema, table, fitter.made_body(root))
         self.text = text
 

@@ -45,20 +45,20 @@ def find_step(schema, table, name):
     return None
 
 
-def find_route(schema, tokens, path, table):
+def find_route(schema, trail, path, table):
     """Where the names behind the first of a path lead from a row of a table."""
     steps = []
     link = None
     before = 0
     ends = "row"
     spot = None
-    for token in tokens[1:]:
+    for index, name in enumerate(trail.dotted[1:], start=1):
         lists = schema.lists(table)
-        step = find_step(schema, table, token.text)
-        if ends != "row" or (step is None and (link is not None or token.text not in lists)):
-            raise Fault(token.line, token.at)
+        step = find_step(schema, table, name)
+        if ends != "row" or (step is None and (link is not None or name not in lists)):
+            raise Fault(trail.line, trail.place + 2 * index)
         if step is None:
-            table, column = lists[token.text]
+            table, column = lists[name]
             link = find_step(schema, table, column)
             before = len(steps)
             continue

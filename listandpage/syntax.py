@@ -1,18 +1,25 @@
-"""What the texts of questions and checks are read into, before names are looked up."""
+"""What the texts of questions and checks are read into, before names are looked up.
+
+What may be wrong tells by line and place where it stands: the line, and the index of its
+first token in the line.
+"""
 
 
 class Trail:
-    """A path as it is written: the token of its first name, and those of the names behind dots."""
+    """A path as it is written: its names."""
 
-    def __init__(self, tokens):
-        self.tokens = tokens
+    def __init__(self, names, line, place):
+        self.dotted = names
+        self.line = line
+        self.place = place
 
 
 class Asked:
     """A test. Its form tells what stands beside the path on the left.
 
     "flag" and "lacks" (nothing), "paths" (a path), "words" (written words, one or more),
-    "number", "list" (a path with a list) and "looped" (square brackets).
+    "number", "list" (a path with a list) and "looped" (square brackets). end is the index
+    of the token behind it.
     """
 
     def __init__(self, left, form, sign, other, denied):
@@ -21,7 +28,7 @@ class Asked:
         self.sign = sign
         self.other = other
         self.denied = denied
-        self.first = left.tokens[0]
+        self.end = 0
 
 
 class Looped:

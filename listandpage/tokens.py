@@ -1,46 +1,68 @@
-"""Tokens: what the texts of questions and checks consist of."""
+"""Tokens: what the texts of questions and checks consist of.
 
-from listandpage.basics import is_letters, is_word
+A token is a string. Where it stands in its text is found out only where something is wrong.
+"""
+
+from listandpage.basics import is_word
 from listandpage.errors import ListandpageError
 from listandpage.schemas import RESERVED
 
 # Signs of two characters; any other sign is a single one.
 PAIRS = ("!=", "==", "<=", ">=")
+# Single signs that begin no longer one, so that they end what stands before them wherever they stand.
+SINGLES = ("(", ")", "[", "]", ",", ".", ":")
 MOST_DIGITS = 12
+# The end of a line counts as a token behind the others.
+END = ""
 
 
 class Fault(ListandpageError):
-    """The first place at which a text is wrong; the class of the text tells it by an error of its own."""
+    """The first place at which a text is wrong: a token by its index in its line, -1 for the line as a whole.
 
-    def __init__(self, line, at):
+    The class of the text tells it by an error of its own.
+    """
+
+    def __init__(self, line, place):
         self.line = line
-        self.at = at
+        self.place = place
 
 
 class Token:
-    """A token and where it begins. The end of a line is an empty one."""
+    """A token that is a name or a word by itself, and where it stands."""
 
-    def __init__(self, text, line, at):
+    def __init__(self, text, line, place):
         self.text = text
         self.line = line
-        self.at = at
+        self.place = place
 
 
-def read_tokens(text, line):
-    """The tokens of a line, and its end. A character that begins no token counts as one."""
+def read_tokens(text, known):
+    """The tokens of a line. known keeps the tokens of the pieces that were met before."""
+    for sign in SINGLES:
+        text = text.replace(sign, f" {sign} ")
+    tokens = []
+    for piece in text.split(" "):
+        if piece not in known:
+            known[piece] = read_piece(piece)
+        tokens.extend(known[piece])
+    return tokens
+
+
+def read_piece(piece):
+    """The tokens of a piece of a line without spaces. A character that begins no token counts as one."""
+    if piece in SINGLES or (piece.isascii() and piece.isalpha()):
+        return [piece]
     tokens = []
     at = 0
-    while at < len(text):
-        size = _size(text, at)
-        if text[at] != " ":
-            tokens.append(Token(text[at:at + size], line, at))
+    while at < len(piece):
+        size = _size(piece, at)
+        tokens.append(piece[at:at + size])
         at = at + size
-    tokens.append(Token("", line, len(text)))
     return tokens
 
 
 def _size(text, at):
-    """The length of the token, the space or the stray character at a position."""
+    """The length of the token or the stray character at a position."""
     if _kind(text[at]) != "other":
         end = at + 1
         while end < len(text) and _kind(text[end]) == _kind(text[at]):
@@ -59,32 +81,37 @@ def _kind(character):
     return "digit" if "0" <= character <= "9" else "other"
 
 
+def find_place(text, tokens, place):
+    """The position of a token in the text of a line; that of the end is the length of the text."""
+    if place >= len(tokens):
+        return len(text)
+    at = 0
+    for token in tokens[:place]:
+        # Between two tokens there are spaces alone.
+        at = text.find(token, at) + len(token)
+    return text.find(tokens[place], at)
+
+
 def is_name_token(text):
-    """Whether the text of a token is a NAME: letters a to z that are not reserved, however many."""
-    return is_letters(text) and text not in RESERVED
+    """Whether a token is a NAME: letters a to z that are not reserved, however many."""
+    return text.isalpha() and text.islower() and text.isascii() and text not in RESERVED
 
 
 def is_word_token(text):
-    """Whether the text of a token is a word between apostrophes; a stray apostrophe is none."""
+    """Whether a token is a word between apostrophes; a stray apostrophe is none."""
     return text.startswith("'") and len(text) > 1
 
 
 def is_digits(text):
-    """Whether the text of a token consists of digits."""
+    """Whether a token consists of digits."""
     return text.isascii() and text.isdigit()
 
 
 def is_number_token(text):
-    """Whether the text of a token is a NUMBER: at most twelve digits without a leading zero."""
+    """Whether a token is a NUMBER: at most twelve digits without a leading zero."""
     return is_digits(text) and len(text) <= MOST_DIGITS and (text == "0" or not text.startswith("0"))
 
 
 def spell(tokens):
     """The tokens with one space between two of them, and none beside a dot."""
-    spelled = ""
-    last = "."
-    for token in tokens:
-        gap = "" if "." in (last, token.text) else " "
-        spelled = spelled + gap + token.text
-        last = token.text
-    return spelled
+    return " ".join(tokens).replace(" . ", ".")
