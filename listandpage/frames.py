@@ -32,17 +32,21 @@ class Frame:
         Of the words of one sort only those that are in use differ from one another.
         """
         found = []
-        for words in self.sorts.get(self.groups.get(cell, cell), []) + [self.spare]:
-            unused = [word for word in words if word not in used]
-            found = found + [word for word in words if word in used] + unused[:1]
-        return found
+        for words in self.sorts_of(cell):
+            found = found + [word for word in words if word in used] + first_unused(words, used)
+        others = [word for word in used if word not in found]
+        return found + others + first_unused(self.spare, used)
+
+    def sorts_of(self, cell):
+        """The lists of written words that tests tell apart in a cell."""
+        return self.sorts.get(self.groups.get(cell, cell), [])
 
     def stand_in(self, cell, word, used):
         """Of the words to be told apart in a cell that of the sort of a word, where the word is not in use."""
-        for words in self.sorts.get(self.groups.get(cell, cell), []) + [self.spare]:
-            if word in words or words == self.spare:
-                return [other for other in words if other not in used][0]
-        return None
+        for words in self.sorts_of(cell):
+            if word in words:
+                return first_unused(words, used)[0]
+        return first_unused(self.spare, used)[0]
 
     def numbers_for(self, cell):
         """A number, as facts have it, for each way in which the tests can come out."""
@@ -57,6 +61,14 @@ class Frame:
     def compared_with(self, cell, number):
         """How the tests come out for a number in a cell, as facts have it."""
         return tuple([compares(number, sign, other * Facts.SCALE) for sign, other in self.compared.get(cell, [])])
+
+
+def first_unused(words, used):
+    """The first of some words that is not in use, in a list; an empty one if all are."""
+    for word in words:
+        if word not in used:
+            return [word]
+    return []
 
 
 def words_of(notes):

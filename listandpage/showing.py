@@ -16,6 +16,10 @@ class Met:
         self.fresh = fresh
         self.standing = standing
 
+    def with_word(self, group, word, standing, fresh):
+        """The same with these new words, where a word of the plan stands for a word of the tree in a group of cells."""
+        return Met(fresh, self.standing if group is None else {**self.standing, (group, word): standing})
+
 
 class Shower:
     """Shows plans as trees of cases, which have an answer for each word and number where plans have one for many."""
@@ -57,16 +61,13 @@ class Shower:
         used = plan.facts.used.get(group, {})
         behind = {answer: below for answer, below in plan.behind}
         branches = [self.show(behind[None], met)] if None in behind else []
+        for word in [*self.words, *met.fresh]:
+            standing = met.standing.get((group, word), None) or self.frame.stand_in(cell, word, used)
+            branches.append(self.show(behind[standing], met.with_word(group, word, standing, met.fresh)))
         # A sign in front tells a new word from all words that may be written.
         new = f"?{len(met.fresh)}"
-        for word in [*self.words, *met.fresh, new]:
-            fresh = met.fresh + (word,) if word == new else met.fresh
-            standing = met.standing.get((group, word), None)
-            if standing is None:
-                standing = self.frame.stand_in(cell, word, used)
-            known = met.standing if group is None else {**met.standing, (group, word): standing}
-            branches.append(self.show(behind[standing], Met(fresh, known)))
-        return branches
+        standing = self.frame.stand_in(cell, new, used)
+        return branches + [self.show(behind[standing], met.with_word(group, new, standing, met.fresh + (new,)))]
 
     def show_numbers(self, plan, step, met):
         """The trees for the numbers of a cell."""
