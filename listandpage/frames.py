@@ -48,6 +48,15 @@ class Frame:
                 return first_unused(words, used)[0]
         return first_unused(self.spare, used)[0]
 
+    def count_alike(self, cell, word, used):
+        """How many words of the sort of a word are not in use, if this one is not."""
+        if word in used:
+            return 1
+        for words in self.sorts_of(cell):
+            if word in words:
+                return len([other for other in words if other not in used])
+        return 1
+
     def numbers_for(self, cell):
         """A number, as facts have it, for each way in which the tests can come out."""
         tests = self.compared.get(cell, [])

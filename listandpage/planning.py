@@ -64,13 +64,20 @@ class Planner:
         least = -1
         for fact in plan.asked:
             behind = [(answer, self.look(facts)) for answer, facts in branches(self.frame, plan.facts, fact)]
-            count = len([below for _, below in behind if below.leaf is None])
+            count = sum([self.times(plan, fact, answer) for answer, below in behind if below.leaf is None])
             if least < 0 or count < least:
                 least = count
                 plan.fact = fact
                 plan.behind = behind
             if least < 2:
                 return
+
+    def times(self, plan, fact, answer):
+        """How many answers of a tree an answer of a plan stands for."""
+        if fact[0] == "some" or not isinstance(answer, str):
+            return 1
+        cell = (fact[1].table, fact[1].column)
+        return self.frame.count_alike(cell, answer, plan.facts.used.get(self.frame.group(cell), {}))
 
     def complete(self):
         """The plans at the beginning, and the facts by which the rights part, None if there are none."""

@@ -16,7 +16,7 @@ class Met:
         self.fresh = fresh
         self.standing = standing
 
-    def with_word(self, group, word, standing, fresh):
+    def standing_for(self, group, word, standing, fresh):
         """The same with these new words, where a word of the plan stands for a word of the tree in a group of cells."""
         return Met(fresh, self.standing if group is None else {**self.standing, (group, word): standing})
 
@@ -63,11 +63,11 @@ class Shower:
         branches = [self.show(behind[None], met)] if None in behind else []
         for word in [*self.words, *met.fresh]:
             standing = met.standing.get((group, word), None) or self.frame.stand_in(cell, word, used)
-            branches.append(self.show(behind[standing], met.with_word(group, word, standing, met.fresh)))
+            branches.append(self.show(behind[standing], met.standing_for(group, word, standing, met.fresh)))
         # A sign in front tells a new word from all words that may be written.
         new = f"?{len(met.fresh)}"
         standing = self.frame.stand_in(cell, new, used)
-        return branches + [self.show(behind[standing], met.with_word(group, new, standing, met.fresh + (new,)))]
+        return branches + [self.show(behind[standing], met.standing_for(group, new, standing, met.fresh + (new,)))]
 
     def show_numbers(self, plan, step, met):
         """The trees for the numbers of a cell."""
