@@ -316,6 +316,22 @@ class DispatchTest(unittest.TestCase):
             self.assertIs(is_certificate(family.dispatch("kind"), nothing(self.schema, "team"),
                                          ("alike", ("same", (tree, tree)))), expected)
 
+    def test_what_the_kinds_compare(self):
+        family = Family(self.schema, "team")
+        family.add("a", (), "return thing.n > 4 and thing.n < 6")
+        family.add("b", (), "return thing.other in ('x', 'y') and thing.other != 'y'")
+        self.assertTrue(judge(family.dispatch("kind"), Question(
+            self.schema, "team", "thing.kind = 'a' and thing.n = 5 or thing.kind = 'b' and thing.other = 'x'")))
+        low = Family(self.schema, "team")
+        low.add("a", (), "return thing.n == 5")
+        verdict = judge(low.dispatch("kind"), nothing(self.schema, "team"))
+        self.assertEqual((verdict.way, verdict.certificate()[1].value("team", 0, "n")), ("first", 5))
+        words = Family(self.schema, "team")
+        words.add("a", (), "return thing.other in ('p', 'q', 'r', 's')")
+        with self.assertRaises(TooMany) as caught:
+            never(words.dispatch("kind"))
+        self.assertEqual(caught.exception.what, "words")
+
     def test_columns(self):
         for wrong in (*NO_KINDS, "open", "n", "members", "team", "thing", "role", self.family):
             with self.assertRaises(NoName) as caught:

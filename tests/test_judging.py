@@ -156,6 +156,13 @@ class JudgeTest(unittest.TestCase):
         self.part("no thing.teams as t (some t.members as m (no m.notes as n (n.public)))",
                   "no thing.teams as t (some t.members as m (no m.notes as n (true)))", 5, "second", "org", deep())
 
+    def test_a_row_is_in_one_list_of_a_link(self):
+        text = "thing.team != user.team and some thing.team.members as m (true) and some user.team.members as k (true)"
+        self.part(text, "false", 6, "first")
+        self.assertIs(read(self.schema, "doc", text) <= nothing(self.schema, "doc"), False)
+        self.part(text.replace("!=", "="), "false", 4, "first")
+        self.alike("thing.team != user.team and some thing.team.members as m (m.team = user.team)", "false")
+
     def test_stores_with_many_rows(self):
         three = " and ".join(f"some thing.notes as {name} ({name}.stars = {number})"
                              for name, number in (("i", 1), ("j", 2), ("k", 3)))
@@ -370,6 +377,18 @@ class ValuesTest(unittest.TestCase):
             told[expected] += 1
             self.assertIs(is_certificate(one, two, verdict.certificate()), True)
         self.assertGreater(min(told.values()), 30)
+
+    def test_numbers_beside_those_written(self):
+        for one, two, number in (("thing.level < 0", "false", -1), ("thing.level > 0", "thing.level > 1", 1),
+                                 ("thing.level > 3 and thing.level < 5", "false", 4), ("true", "thing.level <= 7", 8),
+                                 ("true", "thing.level >= 7", 6), ("thing.level >= 7", "thing.level > 7", 7),
+                                 ("thing.level > 999999999999", "false", 10 ** 12)):
+            verdict = judge(read(example(), "doc", one), read(example(), "doc", two))
+            self.assertEqual((len(verdict), verdict.way), (2, "first"))
+            told = verdict.certificate()[1].value("doc", 0, "level")
+            self.assertTrue(told == number or number == 6 and told < 7 or number == -1 and told < 0
+                            or number in (8, 10 ** 12) and told >= number)
+            self.assertFalse(read(example(), "doc", one) <= read(example(), "doc", two))
 
     def test_words(self):
         schema = Schema("a", [("a", [("word", "v", True), ("word", "w", False), ("word", "u", True)])])

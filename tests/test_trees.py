@@ -131,6 +131,18 @@ class FormTest(TreeCase):
         self.right(("true", "true"), ("number", 0, "level", (True,)))
         self.wrong(("true", "true"), ("number", 0, "level", (True, True)), ("number", 0, "level", ()))
 
+    def test_the_number_0(self):
+        pair = ("thing.level < 0", "not thing.level >= 0")
+        self.right(pair, ("number", 0, "level", (True, False, False)))
+        self.wrong(pair, ("number", 0, "level", (False, False, False)), ("number", 0, "level", (True, True, False)))
+
+    def test_a_clash_stays(self):
+        pair = ("thing.level > 5 and thing.level < 6 and thing.team lacks", "some thing.team.members as m (true) and false")
+        below = ("link", 0, "team", ("clash", ("some", 0, (), ("clash", ("flag", 0, "public", ("clash", "clash"))))))
+        self.right(pair, ("number", 0, "level", (False, False, below, False, False)))
+        self.wrong(pair, ("number", 0, "level", (False, below, False, False, False)),
+                   ("number", 0, "level", (below, False, "clash", False, False)))
+
     def test_numbers_of_other_columns_do_not_count(self):
         self.schema, self.table = deep(), "note"
         text = "thing.stars = 3 or thing.member.team.size = 4"
@@ -232,6 +244,20 @@ class SomeTest(TreeCase):
                    ("some", 0, (0,), (("some", 1, (), (False, row)), good)),
                    ("some", 0, (), (("some", 1, (), (False, row)), True)),
                    ("some", 0, (), (("some", 1, (), (False, True)), good)))
+
+    def test_a_walk_is_asked_once(self):
+        pair = ("true", "true or " + self.TEXT)
+        self.right(pair, ("some", 0, (), (True, True)))
+        self.wrong(pair, ("some", 0, (), (("some", 0, (), (True, True)), True)),
+                   ("some", 0, (), (True, ("some", 0, (), (True, True, True)))))
+        self.right(pair, ("some", 0, (), (("flag", 1, "staff", (True, True)), True)))
+
+    def test_the_list_of_a_row_that_lacks_is_not_asked(self):
+        self.table = "member"
+        pair = ("true", "true or some thing.team.members as m (true)")
+        self.right(pair, ("link", 0, "team", (True, ("some", 0, (), (True, True, True)))))
+        self.wrong(pair, ("link", 0, "team", (("some", 0, (), (True, True, True)), True)),
+                   ("link", 0, "team", (("some", 0, (), (True, True)), True)))
 
     def test_rows_around(self):
         text = "some thing.members as m (some m.notes as n (n.public))"
@@ -432,7 +458,8 @@ class CertificateTest(unittest.TestCase):
         self.assertIs(is_certificate(self.two, self.one, good), True)
         tree = ("link", 0, "team", (("link", 1, "team", ("enough", False)), "enough"))
         self.assertIs(is_certificate(self.one, self.two, good[:4] + (tree,)), True)
-        for wrong in (good[:4], good + (True,), list(good), ("alike",) + good[1:], ("part", self.store, 1, 0, "enough"),
+        for wrong in (good[:4], good + (True,), list(good), ("alike",) + good[1:], ("some",) + good[1:],
+                      (None,) + good[1:],  ("part", self.store, 1, 0, "enough"),
                       ("part", self.store, 0, 1, "enough"), ("part", self.store, False, 0, "enough"),
                       ("part", self.store, 0, None, "enough"), ("part", None, 0, 0, "enough"),
                       ("part", self.store, 0, 0, True), ("part", self.store, 0, 0, "clash"), ("alike", "enough"),
