@@ -206,6 +206,16 @@ class SuperTest(unittest.TestCase):
         used = Question(example(), "doc", "c(thing)", uses={"c": self.family.right("c")})
         self.assertEqual((used.weight(), used.walks()), (30, ["member"] * 4))
 
+    def test_what_the_next_check_compares(self):
+        self.add("return thing.level > 4 and thing.level < 6 or thing.team.code in ('a', 'b')",
+                 "return super() and thing.public")
+        verdict = judge(self.family.right("b"), nothing(example(), "doc"))
+        self.assertEqual(verdict.way, "first")
+        self.alike("b", "thing.public and (thing.level = 5 or thing.team.code in ('b','a'))")
+        with self.assertRaises(TooMany) as caught:
+            judge(self.family.right("b"), read(example(), "doc", "thing.team.code in ('c','d','e')"))
+        self.assertEqual(caught.exception.what, "words")
+
     def test_kept_parts_as_with_the_texts_in_their_places(self):
         walk = "any(m.person == user for m in thing.team.members)"
         self.add("return " + walk, "return thing.public or super()")

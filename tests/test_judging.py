@@ -100,6 +100,15 @@ class JudgeTest(unittest.TestCase):
             self.alike(question, text)
         self.part(question, "user in thing.team.members.person and thing.public", 4, "first")
 
+    def test_words_of_lists(self):
+        lists = ("thing.team.code in thing.team.members.role",
+                 "return thing.team.code in [m.role for m in thing.team.members]")
+        for one in lists:
+            self.part(one, "some thing.team.members as m (true) and not thing.team.code lacks", 4, "second")
+            self.part(one, "some thing.team.members as m (m.role = 'a') and thing.team.code = 'a'", 4, "first")
+            self.alike(one, "some thing.team.members as m (m.role = thing.team.code)")
+            self.alike(one + " and True" if "return" in one else one + " and true", lists[0])
+
     def test_early_returns(self):
         self.alike("no thing.team.members as m (m.role = 'a')",
                    "for m in thing.team.members:\n    if m.role == 'a':\n        return False\nreturn True")

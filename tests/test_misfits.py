@@ -222,6 +222,8 @@ CHECKS = [
     "if True:\n    return @bar\nelse:\n    return baz",
 ]
 LATER_CHECKS = [
+    "for t in thing.org.teams:\n    if t.size == 3:\n        return True\n    for m in t.members:\n        @return False",
+    "for t in thing.org.teams:\n    for m in t.members:\n        return False\n    @return True",
     "for t in thing.org.teams:\n    @for s in thing.org.teams:\n        return True",
     "for t in thing.org.teams:\n    for m in t.members:\n        if @t in [s for s in thing.org.teams]:\n            return True",
     "for t in thing.org.teams:\n    if @any(True for s in t.org.teams):\n        return True",

@@ -437,6 +437,13 @@ class SettledTest(TreeCase):
         self.right((head + "x = m\nreturn False", "false"), ("link", 0, "team", (False, ("some", 0, (), (False,
                                                                                                      "clash")))))
 
+    def test_loops_without_a_return_behind_one(self):
+        self.schema, self.table = deep(), "org"
+        text = "for t in thing.teams:\n    if t.size == 3:\n        return True\n    for m in t.members:\n        x = m"
+        size = ("number", 2, "size", ("clash", "clash", "clash"))
+        self.right((text, "some thing.teams as t (t.size = 3)"), ("some", 0, (), (
+            ("some", 2, (), (False, size)), ("number", 2, "size", ("clash", True, "clash")))))
+
     def test_rights_that_are_put_together(self):
         public, always = read(self.schema, self.table, "thing.public"), everything(self.schema, "doc")
         self.right((public | always, public - always | always), True)
