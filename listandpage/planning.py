@@ -5,7 +5,7 @@ from listandpage.columns import is_link, may_lack
 from listandpage.deciding import claims_on_answers, distinct
 from listandpage.facts import first_facts
 from listandpage.frames import Frame
-from listandpage.routes import find_step
+from listandpage.paths import Step
 
 
 class Plan:
@@ -52,12 +52,23 @@ class Planner:
         return Plan(facts, None, distinct(waiting) if waiting else self.needed_links(facts))
 
     def needed_links(self, facts):
-        """The first link of a named row that cannot lack and is not known, if there is one."""
+        """The links of named rows that cannot lack and are not known, those first that need a row of a new table.
+
+        They matter where rows are counted only: otherwise each of them can lead to a row of its own.
+        """
+        alone = []
+        others = []
+        if self.most == 0:
+            return alone
         for row, table in enumerate(facts.named):
             for place, column in enumerate(self.pair.schema.columns(table)):
                 if is_link(column) and not may_lack(column) and (row, place) not in facts.cells:
-                    return [("cell", find_step(self.pair.schema, table, column[1]), row)]
-        return []
+                    fact = ("cell", Step(table, column[1], place), row)
+                    if facts.of_table(column[2]):
+                        others.append(fact)
+                    else:
+                        alone.append(fact)
+        return alone + others
 
     def choose(self, plan):
         """Ask the fact that leaves fewest cases open."""
@@ -88,5 +99,6 @@ class Planner:
             if plan.is_parting():
                 return first, plan.facts
             self.choose(plan)
-            waiting.extend([below for _, below in plan.behind if below.leaf is None])
+            # The first answers are looked at first, so that new rows come last.
+            waiting.extend([below for _, below in plan.behind[::-1] if below.leaf is None])
         return first, None

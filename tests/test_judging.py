@@ -145,6 +145,25 @@ class JudgeTest(unittest.TestCase):
         self.part("thing.g and no user.bs as b (true)", "false", 4, "first", "c", schema)
         self.part("thing.g and some user.bs as b (b != thing.y)", "false", 4, "first", "c", schema)
 
+    def test_many_links_that_cannot_lack(self):
+        names = "abcdef"
+        tables = [("a", [("flag", "f")])]
+        for before, name in zip(names, names[1:]):
+            links = [("link", "l" + each, before, False, None) for each in "pqrst"]
+            tables.append((name, links + [("flag", "f")]))
+        for user, alone in (("a", 6), ("f", 6)):
+            schema = Schema(user, tables)
+            self.part("true", "false", alone, "first", "f", schema)
+            self.part("thing.f", "thing.lp.f", alone, None, "f", schema)
+            self.part("thing.lp.lp.lp.lp.lp = thing.lq.lq.lq.lq.lq", "true", alone + 1, "second", "f", schema)
+            self.part("thing.lp != thing.lq and thing.lp != thing.lr", "false", alone + 1, "first", "f", schema)
+        tables[1] = ("b", [("link", "lp", "a", False, "bs")] + tables[1][1][1:])
+        schema = Schema("f", tables)
+        # A row of b is in the list of the row to which its lp leads.
+        self.alike("no thing.lp.lp.bs as x (true)", "false", "c", schema)
+        # Two rows of a, a row of each other table.
+        self.part("no thing.lq.lq.bs as x (true)", "false", 7, "first", "c", schema)
+
     def test_rights_of_one_table(self):
         self.alike("thing = user or thing.staff", "return user == thing or not (user != thing and not thing.staff)",
                    "person")
