@@ -98,12 +98,12 @@ class CheckText:
             raise Fault(len(self.lines), -1)
         return self.blocks[0]
 
-    def position(self, fault):
-        """The position of a fault in its line."""
-        if fault.place < 0:
+    def position(self, line, place):
+        """The position of a token in a line, 0 for the line as a whole."""
+        if place < 0:
             return 0
-        line = self.lines_read[fault.line]
-        return find_place(line.text, line.tokens, fault.place)
+        read = self.lines_read[line]
+        return find_place(read.text, read.tokens, place)
 
     def read_line(self, number, text):
         """Read a line and put its statement into its block."""

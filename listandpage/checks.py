@@ -20,7 +20,7 @@ class Check(Right):
         try:
             body = check_body(schema, table, self.source.read_whole(), self.uses, None)
         except Fault as fault:
-            raise BadCheck(fault.line, self.source.position(fault)) from None
+            raise BadCheck(fault.line, self.source.position(fault.line, fault.place)) from None
         Right.__init__(self, schema, table, body)
         self.text = text
 

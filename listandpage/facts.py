@@ -45,13 +45,13 @@ class Facts:
 
     def with_cell(self, row, place, value):
         """The same and what stands in a cell."""
-        cells = dict(self.cells)
+        cells = {key: self.cells[key] for key in self.cells}
         cells[(row, place)] = value
         return Facts(self.start, self.named, cells, self.answers, self.used)
 
     def with_word(self, group, word):
         """The same and a word that stands in a group of cells."""
-        used = dict(self.used)
+        used = {key: self.used[key] for key in self.used}
         used[group] = {**used.get(group, {}), word: True}
         return Facts(self.start, self.named, self.cells, self.answers, used)
 
@@ -61,7 +61,7 @@ class Facts:
 
     def with_answer(self, walk, chosen, row):
         """The same and a row that counts for a walk, or None: that no row does."""
-        answers = dict(self.answers)
+        answers = {key: self.answers[key] for key in self.answers}
         answers[(walk, chosen)] = row
         return Facts(self.start, self.named, self.cells, answers, self.used)
 

@@ -56,7 +56,7 @@ class Family:
             program = source.read_whole()
             right = self._right_of(program, order)
         except Fault as fault:
-            raise BadCheck(fault.line, source.position(fault)) from None
+            raise BadCheck(fault.line, source.position(fault.line, fault.place)) from None
         return Kind(bases, order, program, right)
 
     def _need_kind(self, name):

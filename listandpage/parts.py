@@ -14,8 +14,8 @@ class Keeper:
         self.world = StoreWorld(store)
         self.start = start
         self.kept = {table: {} for table in pair.schema.tables}
-        # The choices of rows around a walk that are done with, by the place of the walk.
-        self.done = [{} for place in pair.places]
+        # The choices of rows around the walks that are done with, each with the index of its walk.
+        self.done = {}
 
     def keep(self, table, row):
         """Keep a row, and with it the rows to which it links."""
@@ -29,10 +29,10 @@ class Keeper:
     def keep_first_rows(self):
         """Keep the first row that counts for each walk and each choice of kept rows around it; tell if any is new."""
         grown = False
-        for (walk, around), done in zip(self.places, self.done):
+        for index, (walk, around) in enumerate(self.places):
             for chosen in self.choices(around):
-                if chosen not in done:
-                    done[chosen] = True
+                if (index, chosen) not in self.done:
+                    self.done[(index, chosen)] = True
                     grown = True
                     self.keep_first(walk, chosen)
         return grown
@@ -101,7 +101,7 @@ def bounds(one, two):
 
 def times_around(most, around):
     """The product of the numbers of rows for the tables of some walks."""
-    product = 1
+    times = 1
     for walk in around:
-        product = product * most[walk.link.table]
-    return product
+        times = times * most[walk.link.table]
+    return times

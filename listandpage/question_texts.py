@@ -45,7 +45,7 @@ class QuestionText:
         reader.skip(END)
         return root
 
-    def position(self, fault):
-        """The position of a fault."""
-        line = self.lines_read[0]
-        return find_place(line.text, line.tokens, fault.place)
+    def position(self, line, place):
+        """The position of a token in a line: there is one line."""
+        read = self.lines_read[line]
+        return find_place(read.text, read.tokens, place)

@@ -23,7 +23,7 @@ class Question(Right):
         try:
             root = fitter.fit(self.source.read_whole(), first_scope(table, schema.user))
         except Fault as fault:
-            raise BadQuestion(self.source.position(fault)) from None
+            raise BadQuestion(self.source.position(fault.line, fault.place)) from None
         Right.__init__(self, schema, table, fitter.made_body(root))
         self.text = text
 

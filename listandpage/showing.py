@@ -18,7 +18,11 @@ class Met:
 
     def standing_for(self, group, word, standing, fresh):
         """The same with these new words, where a word of the plan stands for a word of the tree in a group of cells."""
-        return Met(fresh, self.standing if group is None else {**self.standing, (group, word): standing})
+        if group is None:
+            return Met(fresh, self.standing)
+        known = {key: self.standing[key] for key in self.standing}
+        known[(group, word)] = standing
+        return Met(fresh, known)
 
 
 class Shower:
