@@ -80,6 +80,11 @@ def find_ways(schema, table):
     return ways
 
 
+def is_listed(schema, table):
+    """Whether a table has a link with a list."""
+    return any([has_list(column) for column in schema.columns(table)])
+
+
 def bounds(one, two):
     """The number of rows of each table that a kept part has at most."""
     one.need_meeting(two)
@@ -87,7 +92,7 @@ def bounds(one, two):
     from_thing = find_ways(schema, one.table)
     from_user = find_ways(schema, schema.user)
     most = {table: from_thing[table] + from_user[table] for table in schema.tables}
-    listed = [table for table in schema.tables if [each for each in schema.columns(table) if has_list(each)]]
+    listed = [table for table in schema.tables if is_listed(schema, table)]
     places = Pair(one, two).places
     for table in listed:
         found = sum([times_around(most, around) for walk, around in places if walk.link.table == table])
