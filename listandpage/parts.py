@@ -13,15 +13,15 @@ class Keeper:
         self.places = pair.places
         self.world = StoreWorld(store)
         self.start = start
-        self.kept = {table: {} for table in pair.schema.tables}
+        self.held = {table: {} for table in pair.schema.tables}
         # The choices of rows around the walks that are done with, each with the index of its walk.
         self.done = {}
 
     def keep(self, table, row):
         """Keep a row, and with it the rows to which it links."""
-        if row in self.kept[table]:
+        if row in self.held[table]:
             return
-        self.kept[table][row] = True
+        self.held[table][row] = True
         for column, value in zip(self.schema.columns(table), self.world.kept[table][row]):
             if is_link(column) and value is not None:
                 self.keep(column[2], value)
@@ -43,7 +43,7 @@ class Keeper:
         for walk in around:
             longer = []
             for chosen in found:
-                rows = [row for row in walk.list_of(self.world, chosen) if row in self.kept[walk.link.table]]
+                rows = [row for row in walk.list_of(self.world, chosen) if row in self.held[walk.link.table]]
                 longer.extend([chosen + (row,) for row in rows])
             found = longer
         return found
@@ -65,7 +65,7 @@ def kept_part(one, two, store, thing, user):
     keeper.keep(one.schema.user, user)
     while keeper.keep_first_rows():
         pass
-    return {table: sorted([int(row) for row in keeper.kept[table]]) for table in one.schema.tables}
+    return {table: sorted([int(row) for row in keeper.held[table]]) for table in one.schema.tables}
 
 
 def find_ways(schema, table):
