@@ -5,9 +5,10 @@ def choices(count, size):
     """All sets of so many of the first indexes, ascending, each an ascending tuple."""
     found = [()]
     for _ in range(size):
-        longer = []
-        for chosen in found:
-            begin = chosen[-1] + 1 if chosen else 0
-            longer.extend([chosen + (index,) for index in range(begin, count)])
-        found = longer
+        found = [chosen + (index,) for chosen in found for index in range(next_index(chosen), count)]
     return found
+
+
+def next_index(chosen):
+    """The first index that may stand behind those of an ascending tuple."""
+    return chosen[-1] + 1 if chosen else 0
