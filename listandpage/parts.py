@@ -41,12 +41,12 @@ class Keeper:
         """The thing, the user and a kept row for each of some walks, each in the list of its walk."""
         found = [self.start]
         for walk in around:
-            longer = []
-            for chosen in found:
-                rows = [row for row in walk.list_of(self.world, chosen) if row in self.held[walk.link.table]]
-                longer.extend([chosen + (row,) for row in rows])
-            found = longer
+            found = [chosen + (row,) for chosen in found for row in self.held_of(walk, chosen)]
         return found
+
+    def held_of(self, walk, chosen):
+        """The kept rows in the list of a walk."""
+        return [row for row in walk.list_of(self.world, chosen) if row in self.held[walk.link.table]]
 
     def keep_first(self, walk, chosen):
         """Keep the first row of the list of a walk that counts."""
