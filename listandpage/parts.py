@@ -74,10 +74,9 @@ def find_ways(schema, table):
     ways[table] = 1
     # Links lead to earlier tables, so that the ways to the later ones are complete.
     for each in reversed(list(schema.tables)):
-        many = ways[each]
         for column in schema.columns(each):
             if is_link(column):
-                ways[column[2]] += many
+                ways[column[2]] = ways[column[2]] + ways[each]
     return ways
 
 

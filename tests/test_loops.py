@@ -10,6 +10,7 @@ CHANGING = ("append", "clear", "extend", "insert", "pop", "remove", "reverse", "
 GETTING = ("extend", "update")
 THROUGH = ("enumerate", "reversed", "zip")
 VIEWS = ("items", "keys", "values")
+KEPT = (ast.Name, ast.Attribute, ast.Subscript)
 
 
 def iterated(node):
@@ -45,15 +46,58 @@ def gotten(node):
 
 
 def joined_names(function):
-    """For each name all names that plain assignments of the function join with it."""
+    """For each name, attribute or item all those that plain assignments of the function join with it."""
     groups = {}
     for node in ast.walk(function):
-        if isinstance(node, ast.Assign) and isinstance(node.value, ast.Name):
+        if isinstance(node, ast.Assign) and isinstance(node.value, KEPT):
             for target in node.targets:
-                one, two = ast.unparse(target), node.value.id
+                one, two = ast.unparse(target), ast.unparse(node.value)
                 group = groups.get(one, {one}) | groups.get(two, {two})
                 groups.update({name: group for name in group})
     return groups
+
+
+def holders(node):
+    """An expression and what it is an item of, an item of an item and so on."""
+    return [ast.unparse(node)] + (holders(node.value) if isinstance(node, ast.Subscript) else [])
+
+
+def choices(node):
+    """The expressions that an expression may be the value of, as far as it builds none of its own."""
+    if isinstance(node, ast.IfExp):
+        return choices(node.body) + choices(node.orelse)
+    if isinstance(node, ast.BoolOp):
+        return [each for value in node.values for each in choices(value)]
+    return [node] if isinstance(node, KEPT) else []
+
+
+def given_names(function):
+    """For each name what it was given: an expression and what this is an item of, or all in the head of a loop."""
+    given = {}
+    for node in ast.walk(function):
+        if isinstance(node, ast.Assign):
+            targets, found = node.targets, [name for each in choices(node.value) for name in holders(each)]
+        elif isinstance(node, (ast.For, ast.comprehension)):
+            targets, found = [node.target], [ast.unparse(each) for each in ast.walk(node.iter) if isinstance(each, KEPT)]
+        else:
+            continue
+        names = [each.id for target in targets for each in ast.walk(target)
+                 if isinstance(each, ast.Name) and isinstance(each.ctx, ast.Store)]
+        for name in names:
+            given.setdefault(name, set()).update(found)
+    return given
+
+
+def followed(names, given):
+    """These names and all that they were given."""
+    found = set()
+    waiting = list(names)
+    while waiting:
+        name = waiting.pop()
+        if name not in found:
+            found.add(name)
+            waiting.extend(given.get(name, ()))
+    return found
 
 
 def loops(function):
@@ -71,13 +115,16 @@ def wrong_rows(text):
     functions = [node for node in ast.walk(ast.parse(text)) if isinstance(node, ast.FunctionDef)]
     for function in functions:
         groups = joined_names(function)
+        given = given_names(function)
         for over, nodes in loops(function):
             names = {name for each in over for name in groups.get(each, {each})}
             rows.update(node.lineno for node in nodes for each in changed(node) if ast.unparse(each) in names)
         for node in ast.walk(function):
             parts = [each for got in gotten(node) for each in ast.walk(got) if isinstance(each, ast.expr)]
-            inside = {ast.unparse(each) for each in parts}
-            rows.update(node.lineno for each in changed(node) if ast.unparse(each) in inside)
+            inside = followed([ast.unparse(each) for each in parts], given)
+            held = [name for each in changed(node) for name in holders(each)]
+            own = [each for name in held for each in groups.get(name, [name])]
+            rows.update(node.lineno for name in own if name in inside)
     return sorted(rows)
 
 
@@ -117,6 +164,21 @@ class LoopsTest(unittest.TestCase):
 
     def test_gets_what_it_changes(self):
         self.assertEqual(self.told("d[1] += d[0]"), [2])
-        self.assertEqual(self.told("many = d[0]\nd[1] += many\nd[1] = d[1] + d[0]"), [])
+        self.assertEqual(self.told("d[1] = d[1] + d[0]\nmany = d[0]\nd[1] = d[1] + many"), [])
         self.assertEqual(self.told("xs.extend(xs)\nxs.extend([x for x in xs])\nd.update(d)\nxs += xs"), [2, 3, 4, 5])
         self.assertEqual(self.told("xs.extend(list(box))\nd.update({x: 1 for x in xs})"), [])
+
+    def test_gets_an_item_by_a_name(self):
+        self.assertEqual(self.told("""
+            for each in xs:
+                many = d[each]
+                for x in box:
+                    d[x] += many
+        """), [5])
+        self.assertEqual(self.told("many = d[0]\nmore = many\nd[1] += more"), [4])
+        self.assertEqual(self.told("many = d[0][1]\nd[1][1] += many\nd.update(many)"), [3, 4])
+        self.assertEqual(self.told("row = xs[0] if d else box\nxs.extend(row)"), [3])
+        self.assertEqual(self.told("for row in xs[:]:\n    for x in list(row):\n        xs.extend(row)"), [4])
+        self.assertEqual(self.told("low, high = xs[0]\nxs.extend(low)\nbox.extend(low)"), [3])
+        self.assertEqual(self.told("other = d\nother[1] += d[0]\nrows = box.rows\nbox.rows += rows"), [3, 5])
+        self.assertEqual(self.told("many = len(d[0])\nd[1] += many\nmore = xs[0]\nd[1] += more"), [])
